@@ -1,0 +1,1 @@
+"""Twinforks: nets of forks of two kinds, met out."""

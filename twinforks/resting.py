@@ -1,0 +1,59 @@
+"""Nets at rest."""
+
+from twinforks.courses import many_of_each
+from twinforks.errors import BadChoice
+from twinforks.meetings import is_meeting, sort_of_cells
+from twinforks.meets import meet
+from twinforks.nets import check_net, net_again, net_of_wiring
+from twinforks.things import check_most
+
+
+def rested(net, most):
+    """The pair of the wiring at rest and of the sorts of the meetings done, None if there are more than most."""
+    check_net(net)
+    check_most(most)
+    wiring = net.wiring()
+    sorts = []
+    while len(wiring.ready) > 0:
+        if len(sorts) == most:
+            return None
+        one, other = wiring.ready.pop()
+        sorts.append(sort_of_cells(wiring, one, other))
+        meet(wiring, one, other)
+    return wiring, sorts
+
+
+def rest(net, most):
+    """The pair of the net at rest and of the number of meetings, None if there are more than most."""
+    found = rested(net, most)
+    if found is None:
+        return None
+    return net_of_wiring(found[0]), len(found[1])
+
+
+def rest_sorts(net, most):
+    """How many meetings of each sort are done till rest, None if there are more than most."""
+    found = rested(net, most)
+    if found is None:
+        return None
+    return many_of_each(found[1])
+
+
+def rest_by(net, choose, most):
+    """The pair of the net at rest and of the course that a function chose, None if that is too long."""
+    check_net(net)
+    check_most(most)
+    course = []
+    while len(net.meeting_pairs()) > 0:
+        if len(course) == most:
+            return None
+        chosen = choose(net_again(net), net.meeting_pairs())
+        if not is_meeting(net, chosen):
+            raise BadChoice(chosen)
+        # What was told may be filled anew at the next asking.
+        pair = (chosen[0], chosen[1])
+        course.append(pair)
+        wiring = net.wiring()
+        meet(wiring, pair[0], pair[1])
+        net = net_of_wiring(wiring)
+    return net, course
