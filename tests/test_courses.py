@@ -69,6 +69,13 @@ class CoursesTest(unittest.TestCase):
         self.assertEqual(course_wrong(THREE, [(0, 1), (2, 3), (2, 3)]), ("meeting", 2))
         self.assertEqual(course_wrong(THREE, [(0, 1), (0, 1), (0, 1), (0, 1)]), ("meeting", 3))
 
+    def test_indexes_of_no_cell(self):
+        for net in nets(40):
+            many = len(net.cells())
+            for pair in ((0, many), (many - 1, many), (many, many + 1)):
+                self.assertEqual(course_wrong(net, [pair]), ("meeting", 0))
+                self.assertEqual(course_wrong(net, [meetings(net)[0], (0, many + 9)]), ("meeting", 1))
+
     def test_no_list(self):
         for thing in ANYTHING:
             if not isinstance(thing, (list, tuple)):

@@ -49,6 +49,50 @@ def defined_in(name):
     return {node.name: node for node in tree.body if isinstance(node, (ast.FunctionDef, ast.ClassDef))}
 
 
+NET = Net(["a", "b", "c"], [("x", "m", "a", "p"), ("y", "m", "b", "q"), ("x", "q", "c", "r"), ("stop", "r"), ("stop", "p")], [("l", "l")])
+PARTS = [("p", ["a", "b"], [("x", "a", "b", "c"), ("stop", "c")]), ("q", [], [("use", "p", ["a", "a"]), ("loop",)])]
+PLAN = Plan(PARTS, ["a"], [("use", "p", ["a", "b"]), ("stop", "b"), ("use", "q", [])])
+TABLE = [(("a", [0], []), ("b", [], [1])), (("a", [1], []), ("b", [], [0, 1]))]
+RIGHT = {
+    "net": [NET], "plan": [PLAN], "ends": [["a", "b"]], "endless": [([0, 1], [1, 0]), ([], [0])], "x": [([0, 0], [1, 1]), ([], [0])],
+    "y": [([1], [0, 1]), ([], [0])], "most": [0, 200], "table": [TABLE, []], "shut": [[("b", [], [0, 0])], []], "pair": [(0, 1)],
+    "index": [0, 7], "many": [0, 5], "lot": [[(0, 1)]], "figures": [[], [1, 0]], "other": [([0, 1], [1, 1]), ([], [0, 0])], "end": ["a", "b", "c"],
+    "box": [("a", [], []), ("a", [1, 1], [0, 0]), ("c", [0], [0])], "course": [[], [(0, 1)]], "derivation": [[], [("grow", "x", "a"), ("turn", 3)]],
+    "choose": [lambda here, pairs: pairs[0]], "thing": [("a", [0], []), ([0], [1]), [(0, 1)], [[(0, 1)]], ([], [(0, 1)])],
+    "text": [""],
+}
+TEXTS = {"read_plan": "part p a\nstop a\nnet b\nuse p b\n", "read_net": "net a b\njoin a b\n", "read_table": "a 0 - to b - 1\nshut a 1 1\n",
+         "read_endless": "0(1)", "read_course": "0 1\n2 5\n", "read_steps": "grow x a\nloop\nturn 3\n"}
+
+
+def right_arguments(word, parameters):
+    """All that can be made of right arguments, as lists of arguments in order."""
+    told = [[]]
+    for parameter in parameters:
+        things = [TEXTS[word]] if word in TEXTS and parameter == "text" else RIGHT[parameter]
+        told = [[*ahead, thing] for ahead in told for thing in things]
+    return told
+
+
+def copied(thing, kind):
+    """The same thing, its lists and tuples of this kind, or as they are with None; nets and plans stay."""
+    if isinstance(thing, (list, tuple)):
+        parts = [copied(part, kind) for part in thing]
+        return (kind or type(thing))(parts)
+    if isinstance(thing, dict):
+        return {key: copied(worth, kind) for key, worth in thing.items()}
+    return thing
+
+
+def lists_in(thing):
+    """All lists and dicts in what is told, at every depth."""
+    if isinstance(thing, dict):
+        return [thing] + [one for worth in thing.values() for one in lists_in(worth)]
+    if isinstance(thing, (list, tuple)):
+        return ([thing] if isinstance(thing, list) else []) + [one for part in thing for one in lists_in(part)]
+    return []
+
+
 class InterfaceTest(unittest.TestCase):
     def test_functions(self):
         for name, word, parameters in landed():
@@ -91,6 +135,26 @@ class InterfaceTest(unittest.TestCase):
                         work(**things)
                     except errors.ForkError as error:
                         self.assertIsInstance(str(error), str)
+
+    def test_right_arguments(self):
+        """What is passed stays; what is told is new each time, no list in two places; lists and tuples are passed alike."""
+        for name, word, parameters in landed():
+            work = getattr(importlib.import_module(f"twinforks.{name}"), word)
+            for things in right_arguments(word, parameters):
+                ahead = [copied(thing, None) for thing in things]
+                told = work(*things)
+                self.assertEqual([copied(thing, None) for thing in things], ahead, word)
+                inner = lists_in(told)
+                self.assertEqual(len(inner), len({id(one) for one in inner}), word)
+                passed = {id(one) for one in lists_in(things)}
+                self.assertFalse([one for one in inner if id(one) in passed], word)
+                snapshot = copied(told, None)
+                for one in inner:
+                    one.clear()
+                self.assertEqual(work(*things), snapshot, word)
+                for kind in (list, tuple):
+                    self.assertEqual(work(*[copied(thing, kind) for thing in things]), snapshot, word)
+                self.assertEqual(work(**dict(zip(parameters, things))), snapshot, word)
 
     def test_package_has_a_docstring_alone(self):
         self.assertEqual(defined_in("__init__"), {})

@@ -50,8 +50,8 @@ class MeetingsTest(unittest.TestCase):
 
     def test_bad_pairs(self):
         for net, right in ((OPENING, (0, 1)), (AT_REST, None), (THREE, (0, 1))):
-            for thing in [*ANYTHING, (1, 0), [1, 0], (0, 2), (0, 0), (False, True), (0, True), (0, 1, 2), ("0", "1"), (-2, -1), (0, 10 ** 40), {0: 1, 1: 0}]:
-                if thing != right:
+            for thing in [*ANYTHING, (1, 0), [1, 0], (0, 2), (0, 0), (False, True), (0, True), (False, 1), (0, 1, 2), ("0", "1"), (-2, -1), (0, 10 ** 40), {0: 1, 1: 0}]:
+                if thing is None or thing != right or any(isinstance(part, bool) for part in thing):
                     self.assertIs(raised(BadPair, sort_of, net, thing).thing, thing)
                     self.assertIs(raised(BadPair, met, net, thing).thing, thing)
 

@@ -144,7 +144,7 @@ class StepsTest(unittest.TestCase):
         for text, at in (("g", 1), ("grow", 4), ("grow\n", 4), ("grow ", 5), ("grow z", 5), ("grow x\n", 6), ("grow xx", 6), ("grow x x\n", 8), ("grow x xx", 9),
                          ("grow x abcdefgh", 15), ("grow x abcdefghi", 15), ("grow x 1", 7), ("grow x a b", 8), ("shrink", 6), ("shrink 01", 8), ("shrink -", 7),
                          ("shrink 0 ", 8), ("shrink\n", 6), ("turn 999999999", 14), ("turn 9999999999", 14), ("turn a", 5), ("loop", 4), ("loop ", 4),
-                         ("unloop ", 6), ("unloop\n\n", 7), ("z", 0), ("loops", 4), (" ", 0), ("grow x to\n", 9), ("grow  ", 5), ("turn  ", 5)):
+                         ("unloop ", 6), ("unloop\n\n", 7), ("z", 0), ("loops", 4), (" ", 0), ("grow x to\n", 9), ("grow  ", 5), ("turn  ", 5), ("turn \n", 5), ("shrink \n", 7)):
             self.assertEqual(steps_fault(text), at, text)
             self.assertEqual(raised(BadText, read_steps, text).index, at)
 

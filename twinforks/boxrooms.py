@@ -12,17 +12,14 @@ def is_near(row, other):
 def fill_all(depths):
     """Whether pieces apart from one another, each halved so often, are the whole.
 
-    Two halves of a depth make one of the depth ahead; so no number grows with the rows.
+    Two halves of a depth make one of the depth ahead, and an odd one is lost: so no number grows with the rows.
     """
     many = {}
     for depth in depths:
         many[depth] = many.get(depth, 0) + 1
     carried = 0
     for depth in range(max(depths, default=0), 0, -1):
-        carried += many.get(depth, 0)
-        if carried % 2 == 1:
-            return False
-        carried = carried // 2
+        carried = (carried + many.get(depth, 0)) // 2
     return carried + many.get(0, 0) == 1
 
 

@@ -27,8 +27,8 @@ class CourseWork:
         self.sorts = []
         self.depths = []
 
-    def do_first(self, thing, closed):
-        """Does any object, if it is a meeting; closed tells whether one in a closed part will do."""
+    def do_one(self, thing, closed):
+        """Does any object if it is a meeting, and tells whether it is; closed: whether one in a closed part will do."""
         order, many = cell_order(self.work)
         pair = cells_of(self.work, thing, order if closed else order[:many])
         if pair is None:
@@ -41,7 +41,7 @@ class CourseWork:
     def first_wrong(self, course, closed):
         """Does a list's meetings; the index of the first thing that is none, None if all are."""
         for at, thing in enumerate(course):
-            if not self.do_first(thing, closed):
+            if not self.do_one(thing, closed):
                 return at
         return None
 

@@ -65,6 +65,24 @@ def place_names(wiring):
     return names
 
 
+def told_cells(wiring, names):
+    """The cells, with the names of the wires at their places."""
+    told = []
+    for cell, kind in enumerate(wiring.kinds):
+        told.append((kind, *[names[place] for place in wiring.places_of(cell)]))
+    return told
+
+
+def told_joins(wiring):
+    """The pairs of ends that are one wire."""
+    told = []
+    for place, name in enumerate(wiring.names):
+        mate = wiring.mates[place]
+        if place < mate and wiring.is_end(mate):
+            told.append((name, wiring.names[mate]))
+    return told
+
+
 class Net:
     """A net of forks and stops. It never changes."""
 
@@ -78,7 +96,28 @@ class Net:
         for row in joins:
             names.extend(row)
         check_wires(names)
-        keep_wiring(self, wired(ends, cells, joins))
+        self.keep_wiring(wired(ends, cells, joins))
+
+    def keep_wiring(self, wiring):
+        """Lets the net be the one of this wiring, as it is made."""
+        order, _ = cell_order(wiring)
+        self._wiring = wiring.renumbered(order)
+        names = place_names(self._wiring)
+        self._cells = told_cells(self._wiring, names)
+        self._joins = told_joins(self._wiring)
+        self._first_places = {}
+        for place, name in enumerate(names):
+            if name != "" and name not in self._first_places:
+                self._first_places[name] = place
+
+    def same_net(self):
+        """Another object for the same net; what the two keep never changes."""
+        other = Net([], [], [])
+        other._wiring = self._wiring
+        other._cells = self._cells
+        other._joins = self._joins
+        other._first_places = self._first_places
+        return other
 
     def wiring(self):
         """The net by numbers, its cells numbered as cells() tells them, to be changed."""
@@ -129,36 +168,8 @@ class Net:
         return self.ends() == other.ends() and self._cells == other._cells and self._joins == other._joins
 
 
-def keep_wiring(net, wiring):
-    """Lets the net be the one of this wiring."""
-    order, _ = cell_order(wiring)
-    net._wiring = wiring.renumbered(order)
-    names = place_names(net._wiring)
-    net._cells = []
-    for cell, kind in enumerate(net._wiring.kinds):
-        net._cells.append((kind, *[names[place] for place in net._wiring.places_of(cell)]))
-    net._joins = []
-    net._first_places = {}
-    for place, name in enumerate(names):
-        if name != "" and name not in net._first_places:
-            net._first_places[name] = place
-    for place, mate in enumerate(net._wiring.mates[:len(net._wiring.names)]):
-        if place < mate < len(net._wiring.names):
-            net._joins.append((names[place], names[mate]))
-
-
 def net_of_wiring(wiring):
     """The net of a wiring, which is not kept."""
     net = Net([], [], [])
-    keep_wiring(net, wiring)
+    net.keep_wiring(wiring)
     return net
-
-
-def net_again(net):
-    """Another object for the same net; what the two keep never changes."""
-    other = Net([], [], [])
-    other._wiring = net._wiring
-    other._cells = net._cells
-    other._joins = net._joins
-    other._first_places = net._first_places
-    return other

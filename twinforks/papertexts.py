@@ -61,7 +61,7 @@ def is_course_form(thing):
 
 def is_step_form(thing):
     """Whether any object is a step by its form."""
-    if not is_list(thing) or len(thing) == 0:
+    if not is_list(thing):
         return False
     if len(thing) == 1:
         return thing[0] in ("loop", "unloop")

@@ -4,7 +4,7 @@ from twinforks.courses import many_of_each
 from twinforks.errors import BadChoice
 from twinforks.meetings import is_meeting, sort_of_cells
 from twinforks.meets import meet
-from twinforks.nets import check_net, net_again, net_of_wiring
+from twinforks.nets import check_net, net_of_wiring
 from twinforks.things import check_most
 
 
@@ -47,7 +47,7 @@ def rest_by(net, choose, most):
     while len(net.meeting_pairs()) > 0:
         if len(course) == most:
             return None
-        chosen = choose(net_again(net), net.meeting_pairs())
+        chosen = choose(net.same_net(), net.meeting_pairs())
         if not is_meeting(net, chosen):
             raise BadChoice(chosen)
         # What was told may be filled anew at the next asking.

@@ -1,10 +1,13 @@
 """Names that may still stand."""
 
-from twinforks.things import KEPT, LONGEST_NAME, NAME_SIGNS, begins_name, is_name
+from twinforks.things import LONGEST_NAME, NAME_SIGNS, begins_name, is_name
 
 
 def names_from(length):
-    """How many names begin with signs so many, the kept words among them."""
+    """How many names begin with a word of this length.
+
+    Kept words are counted, too: they are so short that the names which begin like them never run out.
+    """
     many = 0
     for _ in range(LONGEST_NAME + 1 - length):
         many = many * len(NAME_SIGNS) + 1
@@ -20,8 +23,6 @@ class Stock:
         self.singles = 0
         # How many names that begin with a word can't stand any more.
         self.spent = {}
-        for word in KEPT:
-            self.spend(word)
 
     def spend(self, name):
         for length in range(1, len(name) + 1):

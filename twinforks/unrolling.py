@@ -28,7 +28,7 @@ class Bench:
         """Puts in a copy of an unrolled part, its ends made one with wires."""
         keys = list(wires) + [None] * (3 * len(wiring.kinds))
         for place, mate in enumerate(wiring.mates):
-            if wiring.is_end(place) and place < mate and wiring.is_end(mate):
+            if place < mate and wiring.is_end(mate):
                 self.joined_wires.append((keys[place], keys[mate]))
             elif not wiring.is_end(place) and mate >= 0 and keys[place] is None:
                 keys[place] = self.key_at(wiring, keys, mate)
