@@ -9,6 +9,7 @@ import unittest
 from anything import ANYTHING, deep
 from twinforks.nets import Net
 from twinforks.plans import Plan
+from twinforks.resting import rest
 
 ROOT = pathlib.Path(__file__).resolve().parent.parent / "twinforks"
 FUNCTIONS = """
@@ -26,6 +27,23 @@ earliests: earliest(net,course)
 comings: coming_round_wrong(net,thing) is_coming_round(net,thing) coming_round(net,most)
 endless: tops(endless,many) drop_tops(endless,many) put_all(figures,endless) first_unlike(endless,other)
 walking: walk(net,end,x,y,most) way(net,end,x,y,most) box_walked(net,box,most)
+asking: asked(net,end,most) drawn(net,most)
+ways: way_back(way) way_wrong(net,box,thing) is_way(net,box,thing)
+nevers: never_wrong(net,thing) is_never(net,thing) never_paper(net,end,x,y,most)
+stills: is_still(net) inner(net) is_open(net) trees(net) pairs(net) shut(net) box_at(net,end,s,t) opened(net)
+formrows: form(net) alike(net,other)
+shares: share(net,end,goal)
+tables: is_table(ends,table,shut) net_of(ends,table,shut)
+plugging: plugged(net,other,ties) closed(net,ties) renamed(net,names) reordered(net,ends)
+steps: is_step(net,thing) stepped(net,step) undone(net,step) steps_at(net)
+derivations: derivation(net,other) derivation_wrong(net,other,thing) is_derivation(net,other,thing)
+surroundings: is_surroundings(ends,thing) lead(ends,one,other,shut) surrounded(net,surroundings) fares(net,surroundings,most)
+partings: parting(net,other) parting_wrong(net,other,thing) compared(net,other,most)
+ahead: met_ahead(net,index,most) count_ahead(net,most) sorts_ahead(net,most)
+askerpapers: asker_wrong(net,thing) is_asker_paper(net,thing) never_rests(net,most)
+copying: is_without(net,end,kind) shut_at(net,end) forked_at(net,end,kind,names) tied_count(net,end,kind) without_end(net,end)
+copying: copied(net,end,kind,names)
+programs: is_program(thing) deeds_in(program) rounds_in(program) back_program(program)
 """
 METHODS = {
     "nets": ("Net(ends,cells,joins)", "ends() cells() joins() loops() wires() places(wire) __eq__(other)"),
@@ -49,9 +67,18 @@ def defined_in(name):
     return {node.name: node for node in tree.body if isinstance(node, (ast.FunctionDef, ast.ClassDef))}
 
 
+WIRE = Net(["a", "b"], [], [("a", "b")])
+CROSSED = Net(["a", "b"], [("x", "a", "p", "q"), ("x", "b", "q", "p")], [("l", "l")])
+CUT = Net(["a", "b"], [("y", "a", "p", "q"), ("x", "p", "s", "t"), ("x", "q", "u", "v"), ("stop", "u"), ("x", "b", "r", "z"), ("y", "r", "s", "t"),
+                       ("stop", "v"), ("stop", "z")], [])
+STILL = Net(["a", "b", "c"], [("x", "a", "p", "q"), ("stop", "p"), ("x", "r", "q", "s"), ("y", "s", "r", "b"), ("x", "m", "m", "c"),
+                              ("y", "n", "n", "o"), ("stop", "o")], [("l", "l")])
+LEAD = Net(["a", "b", "in", "out"], [("x", "a", "in", "p"), ("x", "b", "out", "q"), ("stop", "p"), ("stop", "q")], [])
+PROGRAM = [("put", 0, "x"), ("by", "x", [("turn", "y"), ("stop",)], [("round", "y", [("take", 1, "x")], "x")], "y")]
 NET = Net(["a", "b", "c"], [("x", "m", "a", "p"), ("y", "m", "b", "q"), ("x", "q", "c", "r"), ("stop", "r"), ("stop", "p")], [("l", "l")])
 PARTS = [("p", ["a", "b"], [("x", "a", "b", "c"), ("stop", "c")]), ("q", [], [("use", "p", ["a", "a"]), ("loop",)])]
 PLAN = Plan(PARTS, ["a"], [("use", "p", ["a", "b"]), ("stop", "b"), ("use", "q", [])])
+NET_AT_REST = rest(NET, 100)[0]
 TABLE = [(("a", [0], []), ("b", [], [1])), (("a", [1], []), ("b", [], [0, 1]))]
 RIGHT = {
     "net": [NET], "plan": [PLAN], "ends": [["a", "b"]], "endless": [([0, 1], [1, 0]), ([], [0])], "x": [([0, 0], [1, 1]), ([], [0])],
@@ -59,8 +86,34 @@ RIGHT = {
     "index": [0, 7], "many": [0, 5], "lot": [[(0, 1)]], "figures": [[], [1, 0]], "other": [([0, 1], [1, 1]), ([], [0, 0])], "end": ["a", "b", "c"],
     "box": [("a", [], []), ("a", [1, 1], [0, 0]), ("c", [0], [0])], "course": [[], [(0, 1)]], "derivation": [[], [("grow", "x", "a"), ("turn", 3)]],
     "choose": [lambda here, pairs: pairs[0]], "thing": [("a", [0], []), ([0], [1]), [(0, 1)], [[(0, 1)]], ([], [(0, 1)])],
-    "text": [""],
+    "text": [""], "way": [[(0, "put", 1), (7, "take", 0)], []], "s": [[], [0, 1]], "t": [[], [1]], "goal": ["a", "b"],
+    "ties": [[("a", "b")], []], "names": [("p", "q")], "step": [("grow", "x", "a"), ("loop",)], "program": [PROGRAM, []], "kind": ["x", "y"],
+    "surroundings": [LEAD], "one": [("a", [0], [])],
 }
+# What else is right for some functions.
+STILLS = {"net": [STILL, NET_AT_REST, WIRE], "other": [STILL, NET_AT_REST, WIRE], "end": ["a", "b"]}
+OPEN = {"net": [CROSSED, WIRE, CUT], "other": [CROSSED, WIRE, CUT], "end": ["a", "b"]}
+OWN = {
+    "way_wrong": {"thing": [[], [(0, "put", 1)], [(0, "take", 0), (0, "put", 0)]]}, "is_way": {"thing": [[], [(0, "put", 1)]]},
+    "never_wrong": {"thing": [(("a", [], []), [], [(0, "put", 1)]), []]}, "is_never": {"thing": [(("a", [], []), [], [(0, "put", 1)])]},
+    "plugged": {"net": [NET], "other": [Net(["b", "d"], [("stop", "b"), ("x", "d", "e", "e")], [("l", "l")])], "ties": [[("a", "b"), ("b", "d")], [("b", "b")]]},
+    "renamed": {"names": [{"a": "c", "b": "a", "c": "d"}]}, "reordered": {"ends": [["c", "a", "b"]]}, "lead": {"other": [("b", [], [])], "shut": [[("a", [1], [0])], []]},
+    "compared": {"net": [NET, STILL], "other": [NET, STILL]}, "surrounded": {"net": [WIRE, CROSSED]}, "fares": {"net": [WIRE, CROSSED]},
+    "asker_wrong": {"thing": [(0, [], [(1, "meet", 0)]), None]}, "is_asker_paper": {"thing": [(0, [], [(1, "meet", 0)])]},
+    "met_ahead": {"index": [0, 1, 4]}, "never_rests": {"most": [0, 8]}, "is_surroundings": {"thing": [LEAD, WIRE]}, "is_program": {"thing": [PROGRAM, 3]},
+    "is_table": {"table": [TABLE, [], None]}, "never_paper": {"most": [0, 30]},
+}
+for _word in "inner trees pairs shut box_at opened form share".split():
+    OWN[_word] = STILLS
+for _word in "alike steps_at derivation parting tied_count without_end is_without".split():
+    OWN[_word] = OPEN
+for _word in "is_step stepped undone".split():
+    OWN[_word] = {**OPEN, "thing": [("grow", "x", "a"), ("shrink", 0), None]}
+OWN["stepped"] = {**OPEN, "net": [WIRE, Net(["a"], [("stop", "a")], [])]}
+OWN["undone"] = OWN["stepped"]
+OWN["copied"] = {"net": [WIRE, Net(["a", "b"], [("stop", "a"), ("stop", "b")], [])], "end": ["a", "b"]}
+for _word in "derivation_wrong is_derivation parting_wrong".split():
+    OWN[_word] = {**OPEN, "thing": [[], [("grow", "x", "a"), ("loop",)], (0, LEAD), None]}
 TEXTS = {"read_plan": "part p a\nstop a\nnet b\nuse p b\n", "read_net": "net a b\njoin a b\n", "read_table": "a 0 - to b - 1\nshut a 1 1\n",
          "read_endless": "0(1)", "read_course": "0 1\n2 5\n", "read_steps": "grow x a\nloop\nturn 3\n"}
 
@@ -69,7 +122,7 @@ def right_arguments(word, parameters):
     """All that can be made of right arguments, as lists of arguments in order."""
     told = [[]]
     for parameter in parameters:
-        things = [TEXTS[word]] if word in TEXTS and parameter == "text" else RIGHT[parameter]
+        things = [TEXTS[word]] if word in TEXTS and parameter == "text" else OWN.get(word, {}).get(parameter, RIGHT[parameter])
         told = [[*ahead, thing] for ahead in told for thing in things]
     return told
 
@@ -114,13 +167,10 @@ class InterfaceTest(unittest.TestCase):
 
     def test_any_object_raises_no_other_error(self):
         """Whatever is passed, either something is told or an error of the package's raised."""
-        net = Net(["a", "b"], [("x", "w", "a", "c"), ("x", "w", "b", "c")], [])
-        right = {"net": net, "plan": Plan([], [], []), "ends": ["a", "b"], "endless": ([], [0]), "x": ([], [0]), "y": ([0], [1]), "most": 3,
-                 "text": "", "table": [], "shut": [], "pair": (0, 1), "course": [(0, 1)], "derivation": [], "index": 2, "many": 2, "lot": [(0, 1)],
-                 "choose": lambda here, pairs: pairs[0], "figures": [1], "other": ([1], [0]), "end": "a", "box": ("a", [], []), "thing": None}
         errors = importlib.import_module("twinforks.errors")
         for name, word, parameters in landed():
             work = getattr(importlib.import_module(f"twinforks.{name}"), word)
+            right = dict(zip(parameters, right_arguments(word, parameters)[0]))
             for parameter in parameters:
                 if parameter == "choose":
                     continue
@@ -129,8 +179,7 @@ class InterfaceTest(unittest.TestCase):
                     if word == "tops" and isinstance(thing, int) and thing > 10 ** 6:
                         # No row is as long as that.
                         continue
-                    things = {one: right[one] for one in parameters}
-                    things[parameter] = thing
+                    things = {**right, parameter: thing}
                     try:
                         work(**things)
                     except errors.ForkError as error:

@@ -81,3 +81,23 @@ def are_apart(row, other):
 
 def boxes_apart(box, other):
     return box[0] != other[0] or are_apart(box[1], other[1]) or are_apart(box[2], other[2])
+
+
+def signs_of(row):
+    """A row's figures as a string, by which rows are worked with where they are keys or begin with one another."""
+    return "".join([str(figure) for figure in row])
+
+
+def figures_of(signs):
+    """The row of a string of figures."""
+    return [int(sign) for sign in signs]
+
+
+def box_of(signed):
+    """The box of a triple of an end and two strings of figures."""
+    return signed[0], figures_of(signed[1]), figures_of(signed[2])
+
+
+def signed_box(box):
+    """The triple of a box's end and of its rows as strings."""
+    return box[0], signs_of(box[1]), signs_of(box[2])

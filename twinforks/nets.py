@@ -46,12 +46,12 @@ def check_net(net):
         raise BadNet(net)
 
 
-def place_names(wiring):
-    """For each place the name of its wire: an end's, or w1, w2, .. as the wires first stand."""
+def place_names(wiring, order):
+    """For each place the name of its wire: an end's, or w1, w2, .. as the wires first stand, cells told in an order."""
     ends = wiring.names
     names = ends + [""] * (3 * len(wiring.kinds))
     number = 0
-    for cell in range(len(wiring.kinds)):
+    for cell in order:
         for place in wiring.places_of(cell):
             mate = wiring.mates[place]
             if wiring.is_end(mate):
@@ -102,7 +102,7 @@ class Net:
         """Lets the net be the one of this wiring, as it is made."""
         order, _ = cell_order(wiring)
         self._wiring = wiring.renumbered(order)
-        names = place_names(self._wiring)
+        names = place_names(self._wiring, list(range(len(order))))
         self._cells = told_cells(self._wiring, names)
         self._joins = told_joins(self._wiring)
         self._first_places = {}
@@ -157,6 +157,10 @@ class Net:
             else:
                 told.append((wiring.cell_at(place), wiring.leg_at(place)))
         return told
+
+    def first_place(self, wire):
+        """The number of the first place of a wire, in the wiring."""
+        return self._first_places[wire]
 
     def __eq__(self, other):
         if not isinstance(other, Net) or self._wiring.circles != other._wiring.circles:

@@ -1,7 +1,7 @@
 """Texts of endless rows, courses, derivations."""
 
 from twinforks.errors import BadForm
-from twinforks.forms import check_endless
+from twinforks.forms import check_endless, figures_of, signs_of
 from twinforks.paperreading import GREATEST, CourseReader, StepsReader
 from twinforks.scanning import check_fault, fault_of, lines_of
 from twinforks.things import is_list, is_name, is_number, is_pair
@@ -15,15 +15,14 @@ BEHIND_ROUND = {"0": "round", "1": "round", ")": "all"}
 def endless_text(endless):
     """The text of an endless row, as it is told."""
     check_endless(endless)
-    head, again = ["".join([str(figure) for figure in row]) for row in endless]
-    return f"{head}({again})"
+    return f"{signs_of(endless[0])}({signs_of(endless[1])})"
 
 
 def read_endless(text):
     """The endless row of a text, as it stands there."""
     check_fault(endless_fault(text))
     head, _, again = text.partition("(")
-    return [int(sign) for sign in head], [int(sign) for sign in again[:-1]]
+    return figures_of(head), figures_of(again[:-1])
 
 
 def signs_next(read):

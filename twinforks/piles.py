@@ -13,6 +13,13 @@ class Pile:
         self.under = endless
         self.gone = 0
 
+    def twin(self):
+        """Another pile alike."""
+        other = Pile([], self.under)
+        other.known = list(self.known)
+        other.gone = self.gone
+        return other
+
     def has_top(self):
         return len(self.known) > 0 or self.under is not None
 

@@ -9,13 +9,20 @@ from twinforks.things import check_most
 
 
 def rested(net, most):
-    """The pair of the wiring at rest and of the sorts of the meetings done, None if there are more than most."""
+    """As met_out, of what should be a net and a number."""
     check_net(net)
     check_most(most)
+    return met_out(net, most)
+
+
+def met_out(net, most):
+    """The pair of the wiring at rest and of the sorts of the meetings done, None if there are more than most; as many
+    as it takes where most is None.
+    """
     wiring = net.wiring()
     sorts = []
     while len(wiring.ready) > 0:
-        if len(sorts) == most:
+        if most is not None and len(sorts) == most:
             return None
         one, other = wiring.ready.pop()
         sorts.append(sort_of_cells(wiring, one, other))

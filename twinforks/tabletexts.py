@@ -1,7 +1,7 @@
 """Texts of tables and of boxes that are shut."""
 
 from twinforks.errors import BadShut, BadTable
-from twinforks.forms import boxes_apart, is_box_at
+from twinforks.forms import box_of, boxes_apart, is_box_at, signs_of
 from twinforks.scanning import check_fault, fault_of, going_on, lines_of
 from twinforks.tablereading import TableReader
 from twinforks.things import check_ends, is_list, is_pair
@@ -23,54 +23,65 @@ def is_new_pair(ends, thing, ahead):
     return is_new_box(ends, thing[1], [*ahead, thing[0]])
 
 
-def check_table(ends, table):
-    """Tells the list of the table's boxes."""
+def boxes_in(table):
+    """The list of a table's boxes."""
+    boxes = []
+    for pair in table:
+        boxes.extend([pair[0], pair[1]])
+    return boxes
+
+
+def first_no_pair(ends, table):
+    """The index of the first thing in what should be a table that is no pair there, None in a table."""
     if not is_list(table):
-        raise BadTable(0)
-    ahead = []
+        return 0
     for at, pair in enumerate(table):
-        if not is_new_pair(ends, pair, ahead):
-            raise BadTable(at)
-        ahead.extend([pair[0], pair[1]])
-    return ahead
+        if not is_new_pair(ends, pair, boxes_in(table[:at])):
+            return at
+    return None
 
 
-def check_shut(ends, shut, boxes):
-    """The boxes that are shut have to be apart from the table's."""
+def first_not_shut(ends, boxes, shut):
+    """The index of the first thing that is no box apart from boxes and from those ahead, None without one."""
     if not is_list(shut):
-        raise BadShut(0)
-    ahead = list(boxes)
+        return 0
     for at, box in enumerate(shut):
-        if not is_new_box(ends, box, ahead):
-            raise BadShut(at)
-        ahead.append(box)
+        if not is_new_box(ends, box, [*boxes, *shut[:at]]):
+            return at
+    return None
+
+
+def check_table(ends, table):
+    at = first_no_pair(ends, table)
+    if at is not None:
+        raise BadTable(at)
+
+
+def check_shut(ends, boxes, shut):
+    """The boxes that are shut have to be apart from others."""
+    at = first_not_shut(ends, boxes, shut)
+    if at is not None:
+        raise BadShut(at)
 
 
 def row_text(row):
-    if len(row) == 0:
-        return "-"
-    return "".join([str(figure) for figure in row])
+    return "-" if len(row) == 0 else signs_of(row)
 
 
 def box_text(box):
     return f"{box[0]} {row_text(box[1])} {row_text(box[2])}"
 
 
-def row_told(word):
-    if word == "-":
-        return []
-    return [int(sign) for sign in word]
-
-
 def box_told(words):
     """The box of three words."""
-    return words[0], row_told(words[1]), row_told(words[2])
+    return box_of([word.replace("-", "") for word in words])
 
 
 def table_text(ends, table, shut):
     """The text of a table and of boxes that are shut."""
     check_ends(ends)
-    check_shut(ends, shut, check_table(ends, table))
+    check_table(ends, table)
+    check_shut(ends, boxes_in(table), shut)
     lines = [f"{box_text(pair[0])} to {box_text(pair[1])}\n" for pair in table]
     lines.extend([f"shut {box_text(box)}\n" for box in shut])
     return "".join(lines)

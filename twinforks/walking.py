@@ -8,13 +8,17 @@ from twinforks.things import check_most
 
 
 class Walker:
-    """One that has been sent in at an end, and the passings behind it."""
+    """One that has come along a wire to a place of a net, with two piles, and the passings behind it."""
 
-    def __init__(self, net, end, x, y):
-        self.work = net.wiring()
+    def __init__(self, wiring, place, x, y):
+        self.work = wiring
         self.piles = {"x": x, "y": y}
-        self.place = self.work.mates[self.work.names.index(end)]
+        self.place = place
         self.passings = []
+
+    def twin(self):
+        """Another one that is where this one is, no passings behind it."""
+        return Walker(self.work, self.place, self.piles["x"].twin(), self.piles["y"].twin())
 
     def fare(self):
         """How it is where it is: "out", "stopped", "asks", or "on" if it can pass."""
@@ -32,17 +36,37 @@ class Walker:
 
     def go_through(self):
         """Passes the fork that it has come to."""
-        cell = self.work.cell_at(self.place)
         pile = self.piles[self.kind_here()]
         leg = self.work.leg_at(self.place)
         if leg == 0:
-            figure = pile.take_figure()
-            self.passings.append((cell, "take", figure))
-            self.place = self.work.mates[self.place + 1 + figure]
+            self.leave_by("take", pile.take_figure())
         else:
             pile.put_figure(leg - 1)
-            self.passings.append((cell, "put", leg - 1))
+            self.passings.append((self.work.cell_at(self.place), "put", leg - 1))
             self.place = self.work.mates[self.place - leg]
+
+    def leave_by(self, deed, figure):
+        """Goes on from a fork's back by the leg of a figure, whatever is known of the piles."""
+        self.passings.append((self.work.cell_at(self.place), deed, figure))
+        self.place = self.work.mates[self.place + 1 + figure]
+
+    def both_by_legs(self, deed):
+        """Two others that have gone on from a fork's back, one by each leg."""
+        both = [self.twin(), self.twin()]
+        for figure, one in enumerate(both):
+            one.leave_by(deed, figure)
+        return both
+
+    def ways_on(self):
+        """The two that go on where one asks."""
+        return self.both_by_legs("take")
+
+    def go_as(self, passing):
+        """Goes on, if it can; whether its next passing is this one."""
+        if self.fare() != "on":
+            return False
+        self.go_through()
+        return self.passings[-1] == tuple(passing)
 
     def go_far(self, most):
         """Goes as far as it can with at most so many passings; tells how it is there."""
@@ -55,6 +79,45 @@ class Walker:
     def end_here(self):
         """The end at which it has come out."""
         return self.work.names[self.place]
+
+    def box_here(self):
+        """The end at which it has come out, with what is known of its piles."""
+        return self.end_here(), self.piles["x"].known_row(), self.piles["y"].known_row()
+
+
+def spread_out(first, most):
+    """A walker, and all that it goes on as where it asks, each gone as far as it can: one that asks ahead of those
+    behind its asking, by leg 0 ahead of by leg 1. None if all have more than most passings.
+    """
+    found = []
+    spent = 0
+    left = [first]
+    while len(left) > 0:
+        walker = left.pop()
+        fare = walker.go_far(most - spent)
+        spent += len(walker.passings)
+        if fare == "on" or spent > most:
+            return None
+        found.append(walker)
+        if fare == "asks":
+            left.extend(reversed(walker.ways_on()))
+    return found
+
+
+def walker_at(net, end, x, y):
+    """A walker that has been sent in at an end."""
+    wiring = net.wiring()
+    return Walker(wiring, wiring.mates[wiring.names.index(end)], x, y)
+
+
+def box_walker(net, box):
+    """The walker of a box, of whose piles just the box's figures are known."""
+    return walker_at(net, box[0], Pile(box[1], None), Pile(box[2], None))
+
+
+def check_box(net, box):
+    if not is_box_at(net.ends(), box):
+        raise BadBox(box)
 
 
 def check_end(net, end):
@@ -69,7 +132,7 @@ def sent(net, end, x, y, most):
     check_endless(x)
     check_endless(y)
     check_most(most)
-    return Walker(net, end, Pile([], x), Pile([], y))
+    return walker_at(net, end, Pile([], x), Pile([], y))
 
 
 def walk(net, end, x, y, most):
@@ -94,10 +157,9 @@ def way(net, end, x, y, most):
 def box_walked(net, box, most):
     """How a walker fares of whose piles a box's figures alone are known, None if it is still under way."""
     check_net(net)
-    if not is_box_at(net.ends(), box):
-        raise BadBox(box)
+    check_box(net, box)
     check_most(most)
-    walker = Walker(net, box[0], Pile(box[1], None), Pile(box[2], None))
+    walker = box_walker(net, box)
     fare = walker.go_far(most)
     if fare == "on":
         return None
@@ -105,4 +167,4 @@ def box_walked(net, box, most):
         return fare, walker.kind_here()
     if fare == "stopped":
         return (fare,)
-    return fare, (walker.end_here(), walker.piles["x"].known_row(), walker.piles["y"].known_row())
+    return fare, walker.box_here()
