@@ -1,14 +1,26 @@
-"""The examples of [17], [25] and of [34], as they stand, and the limits of [17]."""
+"""The examples of the document, as they stand: [17], [25], [34], [42], [50], [57], [63], [68]; and the limits of [17]."""
 
 import unittest
 
 from chances import Chance, make_net
+from twinforks.ahead import count_ahead, met_ahead, sorts_ahead
+from twinforks.askerpapers import is_asker_paper, never_rests
+from twinforks.asking import asked
+from twinforks.derivations import derivation, is_derivation
 from twinforks.meetings import meetings, met, sort_of
 from twinforks.nets import Net
+from twinforks.nevers import is_never
+from twinforks.partings import compared, parting_wrong
 from twinforks.plans import Plan
 from twinforks.plantexts import net_text, plan_fault, plan_text, read_net, read_plan
+from twinforks.plugging import closed, plugged
 from twinforks.resting import rest, rest_sorts
 from twinforks.rounds import schedule
+from twinforks.shares import share
+from twinforks.steps import stepped
+from twinforks.stills import box_at, is_open, pairs, shut, trees
+from twinforks.surroundings import fares, lead
+from twinforks.tables import is_table, net_of
 from twinforks.unrolling import unrolled, unrolled_counts
 from twinforks.walking import box_walked, walk, way
 
@@ -48,9 +60,60 @@ class ExamplesTest(unittest.TestCase):
         self.assertEqual(walk(net, "a", ([], [0]), ([], [0, 1]), 2000), ("out", "a", ([1], [0]), ([], [0, 1]), 2))
         self.assertEqual(way(net, "a", ([], [0]), ([], [0, 1]), 2000), [(0, "take", 0), (0, "put", 1)])
         self.assertEqual(box_walked(net, ("a", [], []), 2000), ("asks", "x"))
+        self.assertEqual(asked(net, "a", 400), ("x", ("to", ("a", [1], [])), ("to", ("a", [0], []))))
         net = Net(["a"], [("x", "p", "p", "a")], [])
-        self.assertEqual(meetings(net), [])
+        self.assertEqual((meetings(net), is_open(net)), ([], False))
         self.assertIsNone(walk(net, "a", ([], [0]), ([], [0]), 2000))
+        self.assertEqual(way(Net(["a", "b"], [], [("a", "b")]), "a", ([], [0]), ([], [0]), 0), [])
+        self.assertTrue(is_never(net, (("a", [], []), [(0, "put", 1)], [(0, "put", 0)])))
+
+    def test_boxes(self):
+        net = Net(["a", "b"], [("x", "a", "p", "q"), ("y", "b", "p", "r"), ("stop", "q"), ("stop", "r")], [])
+        self.assertEqual(trees(net), [("x", ("to", ("b", [], [0])), ("stop",)), ("y", ("to", ("a", [0], [])), ("stop",))])
+        self.assertEqual(pairs(net), [(("a", [0], []), ("b", [], [0])), (("b", [], [0]), ("a", [0], []))])
+        self.assertEqual(shut(net), [("a", [1], []), ("b", [], [1])])
+        self.assertEqual(box_at(net, "b", [1], []), ("cut", "y"))
+        self.assertEqual(box_at(net, "a", [0, 1], [1]), ("leaf", ("a", [0], []), ("b", [1], [0, 1])))
+        self.assertEqual(share(net, "a", "b"), (1, 1))
+        self.assertTrue(net_of(["a", "b"], [(("a", [0], []), ("b", [], [0]))], []) == net)
+        self.assertFalse(is_table(["a", "b"], [(("a", [0], []), ("b", [], [0])), (("a", [], [1]), ("b", [], [1]))], []))
+        self.assertFalse(is_table(["a", "b"], [(("a", [0], []), ("a", [], [1]))], []))
+
+    def test_wires_plugged(self):
+        wires = plugged(Net(["a", "b"], [], [("a", "b")]), Net(["c", "d"], [], [("c", "d")]), [("b", "c")])
+        self.assertEqual((wires.ends(), wires.cells(), wires.joins(), wires.loops()), (["a", "d"], [], [("a", "d")], 0))
+        ring = closed(wires, [("a", "d")])
+        self.assertEqual((ring.ends(), ring.cells(), ring.joins(), ring.loops()), ([], [], [], 1))
+
+    def test_derivations(self):
+        wire = Net(["a", "b"], [], [("a", "b")])
+        forks = Net(["a", "b"], [("x", "a", "p", "q"), ("x", "b", "p", "q")], [])
+        self.assertTrue(is_derivation(wire, forks, [("grow", "x", "a")]))
+        self.assertTrue(is_derivation(forks, wire, [("shrink", 0)]))
+        self.assertTrue(is_derivation(wire, forks, derivation(wire, forks)))
+        net = Net(["a", "c", "d", "e", "f"], [("y", "a", "p", "q"), ("x", "p", "c", "d"), ("x", "q", "e", "f")], [])
+        turned = Net(["a", "c", "d", "e", "f"], [("x", "a", "p", "q"), ("y", "p", "c", "e"), ("y", "q", "d", "f")], [])
+        self.assertTrue(stepped(net, ("turn", 0)) == turned)
+
+    def test_compared(self):
+        wire = Net(["a", "b"], [], [("a", "b")])
+        crossed = Net(["a", "b"], [("x", "a", "p", "q"), ("x", "b", "q", "p")], [])
+        around = lead(["a", "b"], ("a", [0], []), ("b", [0], []), [("a", [1], []), ("b", [1], [])])
+        self.assertTrue(around == Net(["a", "b", "in", "out"], [("x", "a", "in", "s"), ("x", "b", "out", "t"), ("stop", "s"), ("stop", "t")], []))
+        self.assertEqual((fares(wire, around, 2000), fares(crossed, around, 2000)), ("wire", "stops"))
+        told = compared(wire, crossed, 2000)
+        self.assertEqual(told[0], "parted")
+        self.assertIsNone(parting_wrong(wire, crossed, told[1:]))
+
+    def test_askers(self):
+        net = Net([], [("x", "w", "a", "a"), ("y", "w", "b", "b")], [])
+        self.assertEqual((met_ahead(net, 0, 2000), met_ahead(net, 1, 2000)), ([1, 0, 0], [0, 1, 1]))
+        self.assertEqual(sorts_ahead(net, 2000), {("x", "x"): 1, ("x", "y"): 1, ("y", "y"): 1})
+        self.assertEqual(count_ahead(net, 2000), 3)
+        net = Net(["a", "b"], [("x", "w", "v", "a"), ("y", "w", "v", "b")], [])
+        self.assertTrue(is_asker_paper(net, (0, [], [(1, "meet", 0), (0, "put", 0)])))
+        self.assertIsNone(rest(net, 2000))
+        self.assertIsNotNone(never_rests(net, 12))
 
 
 class LimitsTest(unittest.TestCase):
