@@ -102,6 +102,8 @@ class AskerWrongTest(unittest.TestCase):
         self.assertEqual(asker_wrong(OPENING, (0, [], [(1, "meet", 0)])), ("passing", 0))
         self.assertEqual(asker_wrong(Net([], [("stop", "a"), ("stop", "a")], []), (0, [], [(1, "meet", 0)])), ("passing", 0))
         self.assertEqual(asker_wrong(AT_REST, (0, [], [(0, "meet", 0)])), ("passing", 0))
+        net = Net(["a", "b"], [("x", "w", "a", "b"), ("stop", "w")], [])
+        self.assertEqual(asker_wrong(net, (0, [], [(1, "meet", 0)])), ("passing", 0))
         self.assertEqual(asker_wrong(GROWING, (0, [(1, "meet", 1)], [(1, "meet", 0)])), ("passing", 1))
 
     def test_place(self):

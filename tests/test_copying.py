@@ -169,6 +169,12 @@ class CopiedTest(unittest.TestCase):
                     self.assertEqual([one[1] for one in behind], [told[1], told[1]])
                     self.assertEqual([one[3] for one in behind], [told[3], told[3]])
 
+    def test_an_end_called_like_the_first_sign_of_stop(self):
+        net = Net(["s", "t"], [("x", "s", "p", "q"), ("y", "t", "p", "r"), ("stop", "q"), ("stop", "r")], [])
+        self.assertTrue(without_end(net, "s") == Net(["t"], [("y", "t", "p", "r"), ("stop", "p"), ("stop", "r")], []))
+        found = rest(forked_at(net, "s", "y", ("s", "a")), 100)
+        self.assertTrue(found[0] == copied(net, "s", "y", ("s", "a")))
+
     def test_not_without(self):
         self.assertEqual(raised(NotWithout, copied, HALVES, "a", "x", ("p", "q")).index, 0)
         self.assertEqual(raised(NotWithout, copied, HALVES, "b", "y", ("p", "q")).index, 1)

@@ -12,15 +12,15 @@ from twinforks.meetings import meetings
 from twinforks.nets import Net
 from twinforks.plugging import reordered
 from twinforks.stills import inner, pairs
-from twinforks.steps import stepped
+from twinforks.steps import stepped, steps_at
 from twinforks.tables import net_of
 
 DOUBLE = Net(["a", "b"], [("x", "a", "p", "q"), ("x", "b", "p", "q")], [])
 LOOPS = Net(["a", "b"], [], [("a", "b"), ("l", "l"), ("m", "m")])
 
 
-def cut_by_y(ends, table):
-    """A net of a table, cut by y wherever no told box is cut so."""
+def cut_net(ends, table, first):
+    """A net of a table; first tells for each end the kind by which it is cut wherever no told box is cut so."""
     there = {}
     for number, (one, other) in enumerate(table):
         for end, s, t in (one, other):
@@ -34,7 +34,9 @@ def cut_by_y(ends, table):
         elif not inside:
             cells.append(("stop", wire))
         else:
-            kind = "y" if all(len(box[2]) > len(t) for box in inside) else "x"
+            by_y = all(len(box[2]) > len(t) for box in inside)
+            by_x = all(len(box[1]) > len(s) for box in inside)
+            kind = first[end] if by_x and by_y else "x" if by_x else "y"
             legs = [f"v{len(cells)}", f"u{len(cells)}"]
             cells.append((kind, wire, *legs))
             for figure in (0, 1):
@@ -93,12 +95,32 @@ class DerivationTest(unittest.TestCase):
             chance = Chance(seed)
             ends = ["a", "b", "c"][:1 + chance.below(3)]
             table, shut = some_table(chance, ends, 4 + chance.below(14))
-            one, two = net_of(ends, table, shut), cut_by_y(ends, table)
+            one, two = net_of(ends, table, shut), cut_net(ends, table, {end: "y" for end in ends})
             self.assertTrue(alike(one, two))
             self.assertTrue(done(one, derivation(one, two)) == two)
             self.assertTrue(done(two, derivation(two, one)) == one)
             unlike += sorted(pairs(one)) != sorted(pairs(two)) or one != two
         self.assertGreater(unlike, 40)
+
+    def test_one_wire_cut_otherwise_at_its_ends(self):
+        """Nothing can be shrunk there; the trees are made alike by turns, then shrunk fork by fork."""
+        cut = Net(["a", "b"], [("x", "a", "p", "q"), ("y", "p", "r", "s"), ("y", "q", "t", "u"), ("y", "b", "v", "w"), ("x", "v", "r", "t"),
+                               ("x", "w", "s", "u")], [])
+        self.assertEqual([step for step in steps_at(cut) if step[0] == "shrink"], [])
+        self.assertTrue(done(cut, derivation(cut, WIRE)) == WIRE)
+        self.assertTrue(done(WIRE, derivation(WIRE, cut)) == cut)
+        for seed in range(60):
+            chance = Chance(seed)
+            boxes = [(end, [], []) for end in "a"]
+            while len(boxes) < 2 + seed % 9:
+                _, s, t = boxes.pop(chance.below(len(boxes)))
+                kind = chance.below(2)
+                boxes += [("a", s + [figure] * kind, t + [figure] * (1 - kind)) for figure in (0, 1)]
+            table = [(box, ("b", *box[1:])) for box in boxes]
+            nets_there = [cut_net(["a", "b"], table, {"a": one, "b": two}) for one in "xy" for two in "xy"] + [WIRE]
+            for one in nets_there:
+                for two in nets_there:
+                    self.assertTrue(done(one, derivation(one, two)) == two)
 
     def test_by_chance(self):
         """There is one exactly if the pairings are the same ([56]), and it leads to the other net."""

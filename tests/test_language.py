@@ -190,6 +190,14 @@ class LanguageTest(unittest.TestCase):
                     self.assertNotIn(word, {"zip", "enumerate", "reversed", "range", "items", "keys", "values"},
                                      (name, node.lineno))
 
+    def test_views_are_handed_to_no_method(self):
+        for name, tree in TREES.items():
+            for node in ast.walk(tree):
+                if isinstance(node, ast.Call) and isinstance(node.func, ast.Attribute) and node.func.attr != "join":
+                    for thing in node.args:
+                        if isinstance(thing, ast.Call) and isinstance(thing.func, ast.Name):
+                            self.assertNotIn(thing.func.id, {"zip", "enumerate", "reversed", "range"}, (name, node.lineno))
+
 
 if __name__ == "__main__":
     unittest.main()

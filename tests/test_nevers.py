@@ -24,6 +24,7 @@ TAKING = Net(["a"], [("x", "p", "q", "a"), ("y", "p", "q", "s"), ("stop", "s")],
 # Each time a figure of y is taken and put again, or the other figure.
 KEEPING = Net(["a"], [("x", "p", "q", "a"), ("y", "p", "r", "s"), ("y", "q", "r", "s")], [])
 TURNING = Net(["a"], [("x", "p", "q", "a"), ("y", "p", "r", "s"), ("y", "q", "s", "r")], [])
+MIRRORED = Net(["a"], [("y", "p", "q", "a"), ("x", "p", "r", "s"), ("x", "q", "s", "r")], [])
 
 
 def passings_of(net, end, x, y, many):
@@ -101,6 +102,10 @@ class NeverWrongTest(unittest.TestCase):
             self.assertEqual(never_wrong(TURNING, (("a", [], [figure]), [(0, "put", 1)], other)), ("tops",))
             self.assertEqual(never_wrong(TURNING, (("a", [], [figure]), [(0, "put", 1)], other + back + other)), ("tops",))
             self.assertIsNone(never_wrong(TURNING, (("a", [], [figure]), [(0, "put", 1)], other + back)))
+            # The same with the piles exchanged.
+            self.assertEqual(never_wrong(MIRRORED, (("a", [figure], []), [(0, "put", 1)], other)), ("tops",))
+            self.assertIsNone(never_wrong(MIRRORED, (("a", [figure], []), [(0, "put", 1)], other + back)))
+            self.assertEqual(never_paper(MIRRORED, "a", ([figure], [0, 1]), ZEROS, 7), (("a", [figure], []), [(0, "put", 1)], other + back))
             self.assertEqual(never_paper(TURNING, "a", ZEROS, ([figure], [0, 1]), 7), (("a", [], [figure]), [(0, "put", 1)], other + back))
             self.assertIsNone(never_paper(TURNING, "a", ZEROS, ([figure], [0, 1]), 6))
 

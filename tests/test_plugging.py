@@ -106,10 +106,13 @@ class ClosedTest(unittest.TestCase):
 
     def test_errors(self):
         for ties, index in ((None, 0), ({}, 0), ([("a", "a")], 0), ([("a", "c")], 0), ([("a", "b"), ("a", "b")], 1), ([("a",)], 0), (["ab"], 0),
-                            ([("a", "b", "a")], 0), ([("a", ["b"])], 0), ([("a", "w1")], 0)):
+                            ([("a", "b", "a")], 0), ([("a", ["b"])], 0), ([("a", "w1")], 0), ([("c", "a")], 0),
+                            ([(["a"], "b")], 0)):
             self.assertEqual(raised(BadTies, closed, HALVES, ties).index, index)
         net = Net(["a", "b", "c", "d"], [], [("a", "b"), ("c", "d")])
         self.assertEqual(raised(BadTies, closed, net, [("a", "b"), ("c", "b")]).index, 1)
+        self.assertEqual(raised(BadTies, closed, net, [("a", "b"), ("a", "c")]).index, 1)
+        self.assertEqual(raised(BadTies, closed, net, [("a", "b"), ("b", "c")]).index, 1)
         self.assertEqual(raised(BadTies, closed, net, [("a", "b"), ("c", "d"), None]).index, 2)
         for thing in ANYTHING:
             if not isinstance(thing, Net):

@@ -9,7 +9,7 @@ from twinforks.programs import back_program, deeds_in, is_program, rounds_in
 
 PROGRAM = [("put", 0, "x"), ("by", "x", [("turn", "y"), ("stop",)], [("round", "y", [("take", 1, "x")], "x")], "y"), ("round", "x", [], "y")]
 NO_DEEDS = [None, 3, "stop", [], (), ("put",), ("put", 0), ("put", 2, "x"), ("put", True, "x"), ("put", 0, "z"), ("put", "x", 0), ("put", 0, "x", "x"),
-            ("take", -1, "x"), ("take", 0, ["x"]), ("turn",), ("turn", "z"), ("turn", "x", "y"), ("turn", 0), ("stop", "x"), ("do", "a"), ("go", "x"),
+            ("take", -1, "x"), ("take", 0, ["x"]), ("turn",), ("turn", "z"), ("turn", "x", "y"), ("turn", 0), ("stop", "x"), ("do", "a"), ("go", "x"), ("go",),
             ("by", "x", [], [], "z"), ("by", "z", [], [], "x"), ("by", "x", [], "y"), ("by", "x", [], None, "y"), ("by", "x", ("stop",), [], "y"),
             ("by", "x", [], [("put", 0)], "y"), ("round", "x", [], "z"), ("round", "x", None, "y"), ("round", "x", [("stop", 1)], "y"),
             ("round", "x", [], [], "y"), ["stop", "stop"], (["stop"],), {"stop": 1}, ("put", 0, None), ("stop", [])]

@@ -44,6 +44,9 @@ class IsSurroundingsTest(unittest.TestCase):
                 Net(ends, [("x", "a", "p", "s"), ("x", "s", "t", "t")], [("b", "q")]), Net(ends, [("x", "u", "u", "v"), ("stop", "v")], [("a", "p"), ("b", "q")]),
                 Net(ends, [("stop", "u"), ("stop", "u")], [("a", "p"), ("b", "q")])):
             self.assertIs(is_surroundings(ENDS, thing), False)
+        # One of the two more at a stop, and a wire between leaves of these ends.
+        self.assertFalse(is_surroundings(ENDS, Net(ends, [("stop", "p"), ("x", "a", "q", "s")], [("b", "s")])))
+        self.assertFalse(is_surroundings(ENDS, Net(ends, [("stop", "q"), ("x", "a", "p", "s")], [("b", "s")])))
         fork_at_p = Net(ends, [("x", "p", "s", "t"), ("stop", "s"), ("x", "a", "t", "q"), ("stop", "b")], [])
         self.assertFalse(is_surroundings(ENDS, fork_at_p))
         self.assertFalse(is_surroundings([], Net(["p", "q"], [], [("p", "q")])))

@@ -10,7 +10,7 @@ from twinforks.walking import check_end
 
 
 def check_kind(kind, kinds):
-    if not isinstance(kind, str) or kind not in kinds:
+    if kind not in kinds:
         raise BadKind(kind)
 
 
@@ -58,7 +58,7 @@ def reached_count(grove, at, kind):
     while len(left) > 0:
         place = left.pop()
         back = wiring.mates[place]
-        if place in grove.leaf_at and not wiring.is_back(back):
+        if not wiring.is_back(back):
             leaf_places[place] = True
             # The second one of two leaves finds the first one there.
             many += 1 if back in leaf_places else 0

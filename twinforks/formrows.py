@@ -2,7 +2,7 @@
 
 from twinforks.boxrooms import is_near
 from twinforks.forms import box_of
-from twinforks.leaves import check_other, check_still, grove_of
+from twinforks.leaves import check_other, grove_of
 from twinforks.pairings import shared_box, unlike_goals
 
 SHUT = "shut"
@@ -85,7 +85,6 @@ def form(net):
 
 def alike(net, other):
     """Whether two still nets lead all addresses alike."""
-    check_still(net)
+    grove = grove_of(net)
     check_other(net, other)
-    check_still(other)
-    return len(unlike_goals(grove_of(net), grove_of(other))) == 0
+    return len(unlike_goals(grove, grove_of(other))) == 0

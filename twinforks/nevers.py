@@ -61,7 +61,7 @@ def never_paper(net, end, x, y, most):
     # Sent again with just the figures that were taken, it asks for nothing.
     known = {"x": tops(x, walker.piles["x"].gone), "y": tops(y, walker.piles["y"].gone)}
     trail = Trail(walker_at(net, end, Pile(known["x"], None), Pile(known["y"], None)))
-    trail.go_far(most)
+    trail.go_on(most)
     found = first_round(trail)
     if found is None:
         return None

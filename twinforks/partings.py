@@ -9,7 +9,7 @@ from twinforks.pairings import unlike_goals
 from twinforks.resting import rest
 from twinforks.stills import cut_or_leaf, opened
 from twinforks.surroundings import fare_within, is_surroundings_of, lead
-from twinforks.things import check_most, is_number, is_pair
+from twinforks.things import is_number, is_pair
 
 
 class Parter:
@@ -105,7 +105,6 @@ def compared(net, other, most):
     """A derivation or a parting of two nets at rest, opened; None if that takes more than most meetings."""
     check_net(net)
     check_other(net, other)
-    check_most(most)
     found = rest(net, most)
     other_found = rest(other, most)
     if found is None or other_found is None:

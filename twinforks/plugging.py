@@ -91,10 +91,9 @@ def closed(net, ties):
 
 def is_naming(net, names):
     """Whether any object is a dict from just all ends to unlike names."""
-    if not isinstance(names, dict) or len(names) != len(net.ends()):
+    if not isinstance(names, dict) or not all([end in names and is_name(names[end]) for end in net.ends()]):
         return False
-    if not all([end in names and is_name(names[end]) for end in net.ends()]):
-        return False
+    # Fewer of these than names are: two are alike, or one is no end's.
     return len({names[end]: True for end in net.ends()}) == len(names)
 
 

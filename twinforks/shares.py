@@ -1,15 +1,14 @@
 """How much of an end goes to another one."""
 
-from twinforks.leaves import check_still, grove_of
+from twinforks.leaves import grove_of
 from twinforks.walking import check_end
 
 
 def share(net, end, goal):
     """The share of an end's addresses that go to an end, as a pair (number, power): number / 2 ** power."""
-    check_still(net)
+    grove = grove_of(net)
     check_end(net, end)
     check_end(net, goal)
-    grove = grove_of(net)
     number = 0
     power = 0
     for leaf in grove.leaves_at(net.ends().index(end)):
@@ -23,4 +22,4 @@ def share(net, end, goal):
     while power > 0 and number & 1 == 0:
         number = number >> 1
         power -= 1
-    return (number, power) if number > 0 else (0, 0)
+    return number, power

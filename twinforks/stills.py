@@ -2,7 +2,7 @@
 
 from twinforks.endless import check_figures
 from twinforks.forms import box_of, signs_of
-from twinforks.leaves import Grove, check_still, grove_of
+from twinforks.leaves import grove_of
 from twinforks.nets import check_net
 from twinforks.treenets import net_of_trees, tree_told
 from twinforks.walking import check_end
@@ -64,11 +64,10 @@ def cut_or_leaf(grove, end, s, t):
 
 def box_at(net, end, s, t):
     """Where one comes to down an end's tree by two rows' figures."""
-    check_still(net)
+    grove = grove_of(net)
     check_end(net, end)
     check_figures(s)
     check_figures(t)
-    grove = Grove(net.wiring())
     found = cut_or_leaf(grove, end, signs_of(s), signs_of(t))
     if found in ("x", "y"):
         return "cut", found

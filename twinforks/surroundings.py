@@ -8,7 +8,6 @@ from twinforks.plugging import plugged
 from twinforks.resting import met_out
 from twinforks.stills import is_open
 from twinforks.tables import net_of
-from twinforks.tabletexts import check_shut
 from twinforks.things import check_ends, check_most
 
 
@@ -60,7 +59,6 @@ def lead(ends, one, other, shut):
         raise BadBox(one)
     if not is_box_at(ends, other) or not boxes_apart(one, other):
         raise BadBox(other)
-    check_shut(ends, [one, other], shut)
     names = outer_names(ends)
     table = [(one, (names[0], [], [])), (other, (names[1], [], []))]
     return net_of([*ends, *names], table, shut)
@@ -85,7 +83,7 @@ def fare_within(net, surroundings, most):
         return None
     behind = net_of_wiring(found[0])
     ends = behind.ends()
-    if behind.cells() == [] and len(behind.joins()) == 1:
+    if len(behind.cells()) == 0:
         return "wire"
     if behind.cells() == [("stop", ends[0]), ("stop", ends[1])]:
         return "stops"

@@ -32,9 +32,9 @@ class Trail:
             self.mark()
         return None
 
-    def go_far(self, most):
-        """Goes as far as it can with at most so many passings."""
-        while self.walker.fare() == "on" and len(self.been) <= most:
+    def go_on(self, many):
+        """Goes so many passings, which it can."""
+        for _ in range(many):
             self.walker.go_through()
             self.mark()
 

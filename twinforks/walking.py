@@ -100,7 +100,7 @@ def spread_out(first, most):
             return None
         found.append(walker)
         if fare == "asks":
-            left.extend(reversed(walker.ways_on()))
+            left.extend(walker.ways_on()[::-1])
     return found
 
 
