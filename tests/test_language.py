@@ -190,6 +190,12 @@ class LanguageTest(unittest.TestCase):
                     self.assertNotIn(word, {"zip", "enumerate", "reversed", "range", "items", "keys", "values"},
                                      (name, node.lineno))
 
+    def test_attributes_are_assigned_through_local_names(self):
+        for name, tree in TREES.items():
+            for node in ast.walk(tree):
+                if isinstance(node, ast.Attribute) and isinstance(node.ctx, ast.Store):
+                    self.assertIsInstance(node.value, ast.Name, (name, node.lineno))
+
     def test_views_are_handed_to_no_method(self):
         for name, tree in TREES.items():
             for node in ast.walk(tree):

@@ -104,6 +104,13 @@ class PartingTest(unittest.TestCase):
                 else:
                     check_parting(self, net, other, told)
 
+    def test_ends_called_in_and_out(self):
+        one, two = [Net(["in", "out1"], [(cell[0], *[{"a": "in", "b": "out1"}.get(name, name) for name in cell[1:]]) for cell in net.cells()],
+                        [("in", "out1")] if net.joins() else []) for net in (WIRE, CROSSED)]
+        told = parting(one, two)
+        check_parting(self, one, two, told)
+        self.assertEqual(told[1].ends(), ["in", "out1", "in2", "out2"])
+
     def test_deep_leaves(self):
         """Combs of forty cells, unlike in their two last leaves alone."""
         for kinds in ("x" * 10 + "y" * 10, "y" * 10 + "x" * 10, "xy" * 10, "yyx" * 6 + "xx"):

@@ -116,9 +116,10 @@ class Shaper:
 
     def make_loops(self, many):
         """Lets the net have as many loops."""
-        more = many - self.work.circles
+        wiring = self.work
+        more = many - wiring.circles
         self.told.extend([("loop",)] * more + [("unloop",)] * -more)
-        self.work.circles = many
+        wiring.circles = many
 
 
 def derivation(net, other):

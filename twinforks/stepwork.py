@@ -125,10 +125,19 @@ class StepWork:
             return self.do_grow(thing[1], thing[2])
         if thing[0] in ("shrink", "turn"):
             return self.do_at(thing[0], thing[1])
-        if thing[0] == "unloop" and self.work.circles == 0:
+        return self.do_loop(thing[0])
+
+    def do_loop(self, word):
+        """One loop more, or one fewer, if there is one."""
+        wiring = self.work
+        if word == "loop":
+            wiring.circles += 1
+            self.back_step = ("unloop",)
+            return True
+        if wiring.circles == 0:
             return False
-        self.work.circles += 1 if thing[0] == "loop" else -1
-        self.back_step = ("unloop" if thing[0] == "loop" else "loop",)
+        wiring.circles -= 1
+        self.back_step = ("loop",)
         return True
 
     def do_grow(self, kind, wire):

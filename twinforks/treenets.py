@@ -63,5 +63,6 @@ def net_of_trees(ends, listings, loops):
     for at, listing in enumerate(listings):
         planter.plant(at, listing)
     planter.wire_leaves()
-    planter.work.circles = loops
-    return net_of_wiring(planter.work)
+    wiring = planter.work
+    wiring.circles = loops
+    return net_of_wiring(wiring)
