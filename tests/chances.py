@@ -97,3 +97,57 @@ def some_table(chance, ends, many):
     pairs = chance.below(len(boxes) // 2 + 1)
     table = [(boxes[2 * k], boxes[2 * k + 1]) for k in range(pairs)]
     return table, boxes[2 * pairs:]
+
+
+def some_program(chance, depth, longest=4):
+    """A program by chance."""
+    deeds = []
+    for _ in range(chance.below(longest + 1)):
+        word = chance.one_of(("put", "take", "turn", "stop", "by", "round") if depth else ("put", "take", "turn", "stop"))
+        piles = [chance.one_of(("x", "y")), chance.one_of(("x", "y"))]
+        if word in ("put", "take"):
+            deeds.append((word, chance.below(2), piles[0]))
+        elif word == "turn":
+            deeds.append((word, piles[0]))
+        elif word == "stop":
+            deeds.append((word,))
+        elif word == "by":
+            deeds.append((word, piles[0], some_program(chance, depth - 1), some_program(chance, depth - 1), piles[1]))
+        else:
+            deeds.append((word, piles[0], some_program(chance, depth - 1), piles[1]))
+    return deeds
+
+
+def some_book(chance, lines):
+    """A book by chance, in whose lines those ahead are done here and there."""
+    book = []
+    for k in range(lines):
+        book.append((f"n{k}", with_dos(chance, some_program(chance, 2, 3), [name for name, _ in book])))
+    return book
+
+
+def with_dos(chance, program, names):
+    told = []
+    for deed in program:
+        if names and not chance.below(3):
+            told.append(("do", chance.one_of(names)))
+        told.append(tuple(with_dos(chance, part, names) if isinstance(part, list) else part for part in deed))
+    return told
+
+
+def some_machine(chance, many):
+    """States and rules of a machine by chance."""
+    states = [(f"s{k}", chance.one_of(("left", "right", "stay"))) for k in range(many)]
+    froms = chance.mixed([(name, figure) for name, _ in states[:-1] for figure in (0, 1)])
+    tos = chance.mixed([(name, figure) for name, _ in states[1:] for figure in (0, 1)])
+    rules = [(state, read, written, after) for (state, read), (after, written) in zip(froms, tos)]
+    return states, rules[:len(rules) - chance.below(3)]
+
+
+def some_in_out(chance, many, longest):
+    """An in-out table by chance."""
+    sides = []
+    for _ in range(2):
+        boxes = [(s, t) for _, s, t in some_boxes(chance, ["e"], many + chance.below(4))]
+        sides.append([(s + some_row(chance, longest), t + some_row(chance, longest)) for s, t in boxes])
+    return list(zip(*sides))[:many]

@@ -1,4 +1,4 @@
-"""The examples of the document, as they stand: [17], [25], [34], [42], [50], [57], [63], [68]; and the limits of [17]."""
+"""The examples of the document, as they stand: [17], [25], [34], [42], [50], [57], [63], [68], [78]; and the limits of [17]."""
 
 import unittest
 
@@ -7,6 +7,9 @@ from twinforks.ahead import count_ahead, met_ahead, sorts_ahead
 from twinforks.askerpapers import is_asker_paper, never_rests
 from twinforks.asking import asked
 from twinforks.derivations import derivation, is_derivation
+from twinforks.machinenets import net_of_machine
+from twinforks.machines import Machine, machine_run
+from twinforks.meanings import meaning
 from twinforks.meetings import meetings, met, sort_of
 from twinforks.nets import Net
 from twinforks.nevers import is_never
@@ -14,6 +17,7 @@ from twinforks.partings import compared, parting_wrong
 from twinforks.plans import Plan
 from twinforks.plantexts import net_text, plan_fault, plan_text, read_net, read_plan
 from twinforks.plugging import closed, plugged
+from twinforks.programtexts import read_program
 from twinforks.resting import rest, rest_sorts
 from twinforks.rounds import schedule
 from twinforks.shares import share
@@ -153,6 +157,13 @@ class LimitsTest(unittest.TestCase):
         self.assertGreater(len(text), 9000)
         self.assertIsNone(plan_fault(text))
         self.assertTrue(read_net(text) == net)
+
+    def test_programs_and_machines(self):
+        self.assertEqual(meaning(read_program("by x (nothing | nothing) to y"), 0), [([0], [], ("out", [], [0])), ([1], [], ("out", [], [1]))])
+        machine = Machine([("a", "stay"), ("b", "left"), ("c", "stay")], [("a", 0, 0, "b"), ("b", 1, 1, "b"), ("b", 0, 0, "c")])
+        piles = (([], [0]), ([0, 1], [0]))
+        self.assertEqual(machine_run(machine, ([1], [0]), ([], [0]), 3), ("out", *piles, 3))
+        self.assertEqual(walk(net_of_machine(machine), "in", ([1], [0]), ([], [0]), 10), ("out", "out", *piles, 10))
 
 
 if __name__ == "__main__":

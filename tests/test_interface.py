@@ -7,6 +7,7 @@ import pathlib
 import unittest
 
 from anything import ANYTHING, deep
+from twinforks.machines import Machine
 from twinforks.nets import Net
 from twinforks.plans import Plan
 from twinforks.resting import rest
@@ -44,10 +45,19 @@ askerpapers: asker_wrong(net,thing) is_asker_paper(net,thing) never_rests(net,mo
 copying: is_without(net,end,kind) shut_at(net,end) forked_at(net,end,kind,names) tied_count(net,end,kind) without_end(net,end)
 copying: copied(net,end,kind,names)
 programs: is_program(thing) deeds_in(program) rounds_in(program) back_program(program)
+programtexts: program_text(program) read_program(text) program_fault(text) program_goes_on(text)
+books: is_book(thing) book_whole(book) book_text(book) read_book(text) book_fault(text) book_goes_on(text)
+runs: run(program,x,y,most)
+compiled: net_of_program(program)
+meanings: meaning(program,most) programs_alike(program,other,most)
+tableprograms: is_in_out(thing) program_of_table(table)
+machines: machine_run(machine,left,right,most) back_machine(machine)
+machinenets: net_of_machine(machine)
 """
 METHODS = {
     "nets": ("Net(ends,cells,joins)", "ends() cells() joins() loops() wires() places(wire) __eq__(other)"),
     "plans": ("Plan(parts,ends,items)", "parts() ends() body() __eq__(other)"),
+    "machines": ("Machine(states,rules)", "states() rules() __eq__(other)"),
 }
 
 
@@ -75,6 +85,9 @@ STILL = Net(["a", "b", "c"], [("x", "a", "p", "q"), ("stop", "p"), ("x", "r", "q
                               ("y", "n", "n", "o"), ("stop", "o")], [("l", "l")])
 LEAD = Net(["a", "b", "in", "out"], [("x", "a", "in", "p"), ("x", "b", "out", "q"), ("stop", "p"), ("stop", "q")], [])
 PROGRAM = [("put", 0, "x"), ("by", "x", [("turn", "y"), ("stop",)], [("round", "y", [("take", 1, "x")], "x")], "y")]
+MACHINE = Machine([("a", "left"), ("b", "right"), ("c", "stay")], [("a", 1, 0, "b"), ("a", 0, 0, "c"), ("b", 1, 1, "b")])
+IN_OUT = [(([0], []), ([], [1, 1])), (([1], [0]), ([], [0])), (([1], [1]), ([1], [1, 0]))]
+ENDING = [("put", 0, "x"), ("by", "x", [("turn", "y"), ("round", "x", [("put", 0, "y")], "y")], [("stop",)], "y")]
 NET = Net(["a", "b", "c"], [("x", "m", "a", "p"), ("y", "m", "b", "q"), ("x", "q", "c", "r"), ("stop", "r"), ("stop", "p")], [("l", "l")])
 PARTS = [("p", ["a", "b"], [("x", "a", "b", "c"), ("stop", "c")]), ("q", [], [("use", "p", ["a", "a"]), ("loop",)])]
 PLAN = Plan(PARTS, ["a"], [("use", "p", ["a", "b"]), ("stop", "b"), ("use", "q", [])])
@@ -89,6 +102,8 @@ RIGHT = {
     "text": [""], "way": [[(0, "put", 1), (7, "take", 0)], []], "s": [[], [0, 1]], "t": [[], [1]], "goal": ["a", "b"],
     "ties": [[("a", "b")], []], "names": [("p", "q")], "step": [("grow", "x", "a"), ("loop",)], "program": [PROGRAM, []], "kind": ["x", "y"],
     "surroundings": [LEAD], "one": [("a", [0], [])],
+    "book": [[("a", PROGRAM), ("b", [("do", "a"), ("round", "x", [("do", "a"), ("do", "a")], "y")])]],
+    "machine": [MACHINE], "left": [([0, 0], [1, 1]), ([], [0])], "right": [([1], [0, 1]), ([], [1])],
 }
 # What else is right for some functions.
 STILLS = {"net": [STILL, NET_AT_REST, WIRE], "other": [STILL, NET_AT_REST, WIRE], "end": ["a", "b"]}
@@ -101,7 +116,10 @@ OWN = {
     "compared": {"net": [NET, STILL], "other": [NET, STILL]}, "surrounded": {"net": [WIRE, CROSSED]}, "fares": {"net": [WIRE, CROSSED]},
     "asker_wrong": {"thing": [(0, [], [(1, "meet", 0)]), None]}, "is_asker_paper": {"thing": [(0, [], [(1, "meet", 0)])]},
     "met_ahead": {"index": [0, 1, 4]}, "never_rests": {"most": [0, 8]}, "is_surroundings": {"thing": [LEAD, WIRE]}, "is_program": {"thing": [PROGRAM, 3]},
-    "is_table": {"table": [TABLE, [], None]}, "never_paper": {"most": [0, 30]},
+    "is_table": {"table": [TABLE, [], None]}, "never_paper": {"most": [0, 30]}, "is_book": {"thing": [[("a", PROGRAM), ("b", [("do", "a")])], 3]},
+    # Anything is passed as most, too: these end.
+    "run": {"program": [ENDING, []], "x": [([0, 0], [0, 1])], "y": [([1], [0, 1])]}, "machine_run": {"left": [([0], [1]), ([], [0])], "right": [([1, 0], [0])]},
+    "meaning": {"program": [ENDING, []]}, "programs_alike": {"program": [ENDING, []], "other": [ENDING, [], [("stop",)]]}, "is_in_out": {"thing": [IN_OUT, 3]}, "program_of_table": {"table": [IN_OUT, []]},
 }
 for _word in "inner trees pairs shut box_at opened form share".split():
     OWN[_word] = STILLS
@@ -115,6 +133,7 @@ OWN["copied"] = {"net": [WIRE, Net(["a", "b"], [("stop", "a"), ("stop", "b")], [
 for _word in "derivation_wrong is_derivation parting_wrong".split():
     OWN[_word] = {**OPEN, "thing": [[], [("grow", "x", "a"), ("loop",)], (0, LEAD), None]}
 TEXTS = {"read_plan": "part p a\nstop a\nnet b\nuse p b\n", "read_net": "net a b\njoin a b\n", "read_table": "a 0 - to b - 1\nshut a 1 1\n",
+         "read_program": "by x (nothing | stop) to y; turn x", "read_book": "a: stop\nb: do a\n",
          "read_endless": "0(1)", "read_course": "0 1\n2 5\n", "read_steps": "grow x a\nloop\nturn 3\n"}
 
 

@@ -3,7 +3,7 @@
 import unittest
 
 from anything import ANYTHING, raised
-from chances import Chance
+from chances import Chance, some_program
 from twinforks.errors import BadProgram
 from twinforks.programs import back_program, deeds_in, is_program, rounds_in
 
@@ -13,24 +13,6 @@ NO_DEEDS = [None, 3, "stop", [], (), ("put",), ("put", 0), ("put", 2, "x"), ("pu
             ("by", "x", [], [], "z"), ("by", "z", [], [], "x"), ("by", "x", [], "y"), ("by", "x", [], None, "y"), ("by", "x", ("stop",), [], "y"),
             ("by", "x", [], [("put", 0)], "y"), ("round", "x", [], "z"), ("round", "x", None, "y"), ("round", "x", [("stop", 1)], "y"),
             ("round", "x", [], [], "y"), ["stop", "stop"], (["stop"],), {"stop": 1}, ("put", 0, None), ("stop", [])]
-
-
-def some_program(chance, depth, longest=4):
-    deeds = []
-    for _ in range(chance.below(longest + 1)):
-        word = chance.one_of(("put", "take", "turn", "stop", "by", "round") if depth else ("put", "take", "turn", "stop"))
-        piles = [chance.one_of(("x", "y")), chance.one_of(("x", "y"))]
-        if word in ("put", "take"):
-            deeds.append((word, chance.below(2), piles[0]))
-        elif word == "turn":
-            deeds.append((word, piles[0]))
-        elif word == "stop":
-            deeds.append((word,))
-        elif word == "by":
-            deeds.append((word, piles[0], some_program(chance, depth - 1), some_program(chance, depth - 1), piles[1]))
-        else:
-            deeds.append((word, piles[0], some_program(chance, depth - 1), piles[1]))
-    return deeds
 
 
 def deep_program(depth, word):

@@ -2,7 +2,7 @@
 
 from twinforks.errors import BadProgram
 from twinforks.forms import is_figure
-from twinforks.things import is_list
+from twinforks.things import is_list, is_pair
 
 # How many parts a deed of each word has.
 PARTS = {"put": 3, "take": 3, "turn": 2, "by": 5, "round": 4, "stop": 1}
@@ -37,16 +37,26 @@ def is_deed(thing):
     return thing[0] not in ("put", "take") or is_figure(thing[1])
 
 
-def is_program(thing):
-    """Whether any object is a program."""
+def is_do(thing, names):
+    """Whether any object is the deed of a book that does a line of one of these names."""
+    return is_pair(thing) and thing[0] == "do" and isinstance(thing[1], str) and thing[1] in names
+
+
+def is_program_with(thing, names):
+    """Whether any object is a program in which lines of these names may be done."""
     left = [thing]
     while len(left) > 0:
         program = left.pop()
-        if not is_list(program) or not all([is_deed(deed) for deed in program]):
+        if not is_list(program) or not all([is_deed(deed) or is_do(deed, names) for deed in program]):
             return False
         for deed in program:
             left.extend(inner_programs(deed))
     return True
+
+
+def is_program(thing):
+    """Whether any object is a program."""
+    return is_program_with(thing, [])
 
 
 def check_program(program):
