@@ -1,4 +1,4 @@
-"""The examples of the document, as they stand: [17], [25], [34], [42], [50], [57], [63], [68], [78]; and the limits of [17]."""
+"""The examples of the document, as they stand: [17], [25], [34], [42], [50], [57], [63], [68], [78], [83], [91]; and the limits of [17]."""
 
 import unittest
 
@@ -6,7 +6,9 @@ from chances import Chance, make_net
 from twinforks.ahead import count_ahead, met_ahead, sorts_ahead
 from twinforks.askerpapers import is_asker_paper, never_rests
 from twinforks.asking import asked
+from twinforks.audits import audit_pairing, audit_rest
 from twinforks.derivations import derivation, is_derivation
+from twinforks.errors import InUse
 from twinforks.machinenets import net_of_machine
 from twinforks.machines import Machine, machine_run
 from twinforks.meanings import meaning
@@ -20,6 +22,7 @@ from twinforks.plugging import closed, plugged
 from twinforks.programtexts import read_program
 from twinforks.resting import rest, rest_sorts
 from twinforks.rounds import schedule
+from twinforks.sessions import Session
 from twinforks.shares import share
 from twinforks.steps import stepped
 from twinforks.stills import box_at, is_open, pairs, shut, trees
@@ -164,6 +167,26 @@ class LimitsTest(unittest.TestCase):
         piles = (([], [0]), ([0, 1], [0]))
         self.assertEqual(machine_run(machine, ([1], [0]), ([], [0]), 3), ("out", *piles, 3))
         self.assertEqual(walk(net_of_machine(machine), "in", ([1], [0]), ([], [0]), 10), ("out", "out", *piles, 10))
+
+    def test_audits(self):
+        self.assertIsNone(audit_rest("net a b\nx w a c\nx w b c\n", "0 1\n", "net a b\njoin a b\nloop\n"))
+        self.assertEqual(audit_rest("net a b\nx w a c\nx w b c\n", "0 1\n", "net a b\njoin a b\n"), ("end", 2))
+        self.assertIsNone(audit_pairing("net a\nx a p p\n", "a 0 - to a 1 -\n", "0 take 0\n0 put 1\n"))
+        self.assertEqual(audit_pairing("net a\nx a p p\n", "a 0 - to a 1 -\n", "0 take 0\n0 put 0\n"), ("line", 2, 1))
+
+    def test_a_session(self):
+        session = Session()
+        for deed in (("fork", "x", "p", "a", "b"), ("fork", "x", "q", "c", "d"), ("tie", "p", "q")):
+            session.do(deed)
+        self.assertEqual((session.net().ends(), session.answer(("meetings",))), (["a", "b", "c", "d"], 1))
+        does = ("does", [(("a", [], []), ("c", [], [])), (("b", [], []), ("d", [], []))])
+        session.do(("watch", ("meetings",)))
+        session.do(("hold", does))
+        self.assertEqual(session.watched(), [(("meetings",), 1, False), (does, True, True)])
+        self.assertEqual(session.would(("rest",)), [(("meetings",), 1, 0)])
+        with self.assertRaises(InUse) as caught:
+            session.do(("tie", "a", "b"))
+        self.assertEqual(caught.exception.question, does)
 
 
 if __name__ == "__main__":

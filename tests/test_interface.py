@@ -11,6 +11,8 @@ from twinforks.machines import Machine
 from twinforks.nets import Net
 from twinforks.plans import Plan
 from twinforks.resting import rest
+from twinforks.sessions import Session
+from twinforks.sessiontexts import read_session
 
 ROOT = pathlib.Path(__file__).resolve().parent.parent / "twinforks"
 FUNCTIONS = """
@@ -53,11 +55,20 @@ meanings: meaning(program,most) programs_alike(program,other,most)
 tableprograms: is_in_out(thing) program_of_table(table)
 machines: machine_run(machine,left,right,most) back_machine(machine)
 machinenets: net_of_machine(machine)
+onerounds: one_round(program) program_of_machine(machine)
+waytexts: way_text(way) read_way(text) way_fault(text) way_goes_on(text)
+audits: audit_rest(net,course,goal) audit_walk(net,goes,way) audit_never(net,shut,way,again) audit_pairing(net,table,ways)
+proofaudits: audit_alike(net,other,steps) audit_parted(net,other,surroundings,course,second) audit_compiled(program,net)
+papers: rest_paper(net,most) pairing_paper(net,most) alike_paper(net,other) parted_paper(net,other) compiled_paper(program)
+building: building(net)
+sessiontexts: write_session(session) read_session(text) session_fault(text)
 """
 METHODS = {
     "nets": ("Net(ends,cells,joins)", "ends() cells() joins() loops() wires() places(wire) __eq__(other)"),
     "plans": ("Plan(parts,ends,items)", "parts() ends() body() __eq__(other)"),
     "machines": ("Machine(states,rules)", "states() rules() __eq__(other)"),
+    "sessions": ("Session()", "do(deed) is_question(thing) answer(question) would(deed) count() deeds() undo() again() at(number) copy() trial(work) net()"
+                 " watched() __eq__(other)"),
 }
 
 
@@ -86,6 +97,11 @@ STILL = Net(["a", "b", "c"], [("x", "a", "p", "q"), ("stop", "p"), ("x", "r", "q
 LEAD = Net(["a", "b", "in", "out"], [("x", "a", "in", "p"), ("x", "b", "out", "q"), ("stop", "p"), ("stop", "q")], [])
 PROGRAM = [("put", 0, "x"), ("by", "x", [("turn", "y"), ("stop",)], [("round", "y", [("take", 1, "x")], "x")], "y")]
 MACHINE = Machine([("a", "left"), ("b", "right"), ("c", "stay")], [("a", 1, 0, "b"), ("a", 0, 0, "c"), ("b", 1, 1, "b")])
+OPENING = "net a b\nx w a c\nx w b c\n"
+FORK = "net a\nx a p p\n"
+AWAY = "net a\nx p p a\n"
+SESSION = read_session("net a b c\nx a p q\nx b q p\nstop c\nhold does a 0 - to b 1 - and b 0 - to a 1 -\nwatch walk a 0 -\nwatch share a b\n")
+SESSION.do(("rest",))
 IN_OUT = [(([0], []), ([], [1, 1])), (([1], [0]), ([], [0])), (([1], [1]), ([1], [1, 0]))]
 ENDING = [("put", 0, "x"), ("by", "x", [("turn", "y"), ("round", "x", [("put", 0, "y")], "y")], [("stop",)], "y")]
 NET = Net(["a", "b", "c"], [("x", "m", "a", "p"), ("y", "m", "b", "q"), ("x", "q", "c", "r"), ("stop", "r"), ("stop", "p")], [("l", "l")])
@@ -103,7 +119,7 @@ RIGHT = {
     "ties": [[("a", "b")], []], "names": [("p", "q")], "step": [("grow", "x", "a"), ("loop",)], "program": [PROGRAM, []], "kind": ["x", "y"],
     "surroundings": [LEAD], "one": [("a", [0], [])],
     "book": [[("a", PROGRAM), ("b", [("do", "a"), ("round", "x", [("do", "a"), ("do", "a")], "y")])]],
-    "machine": [MACHINE], "left": [([0, 0], [1, 1]), ([], [0])], "right": [([1], [0, 1]), ([], [1])],
+    "session": [SESSION], "machine": [MACHINE], "left": [([0, 0], [1, 1]), ([], [0])], "right": [([1], [0, 1]), ([], [1])],
 }
 # What else is right for some functions.
 STILLS = {"net": [STILL, NET_AT_REST, WIRE], "other": [STILL, NET_AT_REST, WIRE], "end": ["a", "b"]}
@@ -119,6 +135,15 @@ OWN = {
     "is_table": {"table": [TABLE, [], None]}, "never_paper": {"most": [0, 30]}, "is_book": {"thing": [[("a", PROGRAM), ("b", [("do", "a")])], 3]},
     # Anything is passed as most, too: these end.
     "run": {"program": [ENDING, []], "x": [([0, 0], [0, 1])], "y": [([1], [0, 1])]}, "machine_run": {"left": [([0], [1]), ([], [0])], "right": [([1, 0], [0])]},
+    "audit_rest": {"net": [OPENING, None], "course": ["0 1\n", "?"], "goal": ["net a b\njoin a b\nloop\n", "net\n"]},
+    "audit_walk": {"net": [FORK, None], "goes": ["a 0 - to a 1 -\n", "shut a - -\n"], "way": ["0 take 0\n0 put 1\n", ""]},
+    "audit_never": {"net": [AWAY], "shut": ["shut a - -\n", ""], "way": ["0 put 1\n", None], "again": ["0 put 0\n", ""]},
+    "audit_pairing": {"net": [FORK], "table": ["a 0 - to a 1 -\n", "", 3], "ways": ["0 take 0\n0 put 1\n", ""]},
+    "audit_alike": {"net": ["net a b\njoin a b\n", OPENING], "other": ["net a b\nx a p q\nx b p q\n", None], "steps": ["grow x a\n", ""]},
+    "audit_parted": {"net": ["net a b\njoin a b\n"], "other": ["net a b\nstop a\nstop b\n"], "surroundings": ["net a b in out\njoin a in\njoin b out\n", "net\n"],
+                     "course": ["", "0 1\n"], "second": ["", None]},
+    "audit_compiled": {"program": ["turn x", None], "net": ["net in out\nx in p q\nx out q p\n", "net\n"]},
+    "rest_paper": {"most": [0, 50]}, "pairing_paper": {"most": [0, 50]}, "alike_paper": OPEN, "parted_paper": OPEN, "building": {"net": [NET, STILL, Net([], [], [])]},
     "meaning": {"program": [ENDING, []]}, "programs_alike": {"program": [ENDING, []], "other": [ENDING, [], [("stop",)]]}, "is_in_out": {"thing": [IN_OUT, 3]}, "program_of_table": {"table": [IN_OUT, []]},
 }
 for _word in "inner trees pairs shut box_at opened form share".split():
@@ -132,7 +157,7 @@ OWN["undone"] = OWN["stepped"]
 OWN["copied"] = {"net": [WIRE, Net(["a", "b"], [("stop", "a"), ("stop", "b")], [])], "end": ["a", "b"]}
 for _word in "derivation_wrong is_derivation parting_wrong".split():
     OWN[_word] = {**OPEN, "thing": [[], [("grow", "x", "a"), ("loop",)], (0, LEAD), None]}
-TEXTS = {"read_plan": "part p a\nstop a\nnet b\nuse p b\n", "read_net": "net a b\njoin a b\n", "read_table": "a 0 - to b - 1\nshut a 1 1\n",
+TEXTS = {"read_session": "net a b\njoin a b\nwatch walk a 0 -\nhold does a - - to b - -\n", "read_way": "0 put 1\n12 take 0\n", "read_plan": "part p a\nstop a\nnet b\nuse p b\n", "read_net": "net a b\njoin a b\n", "read_table": "a 0 - to b - 1\nshut a 1 1\n",
          "read_program": "by x (nothing | stop) to y; turn x", "read_book": "a: stop\nb: do a\n",
          "read_endless": "0(1)", "read_course": "0 1\n2 5\n", "read_steps": "grow x a\nloop\nturn 3\n"}
 
@@ -141,7 +166,7 @@ def right_arguments(word, parameters):
     """All that can be made of right arguments, as lists of arguments in order."""
     told = [[]]
     for parameter in parameters:
-        things = [TEXTS[word]] if word in TEXTS and parameter == "text" else OWN.get(word, {}).get(parameter, RIGHT[parameter])
+        things = [TEXTS[word]] if word in TEXTS and parameter == "text" else OWN.get(word, {}).get(parameter) or RIGHT[parameter]
         told = [[*ahead, thing] for ahead in told for thing in things]
     return told
 
@@ -179,7 +204,7 @@ class InterfaceTest(unittest.TestCase):
             word, parameters = head[:-1].split("(")
             node = defined_in(name)[word]
             own = {one.name: one for one in node.body if isinstance(one, ast.FunctionDef)}
-            self.assertEqual([arg.arg for arg in own["__init__"].args.args], ["self", *parameters.split(",")])
+            self.assertEqual([arg.arg for arg in own["__init__"].args.args], ["self", *[part for part in parameters.split(",") if part]])
             for one in methods.split():
                 method, more = one[:-1].split("(")
                 self.assertEqual([arg.arg for arg in own[method].args.args], ["self", *[part for part in more.split(",") if part]])
@@ -222,7 +247,26 @@ class InterfaceTest(unittest.TestCase):
                 self.assertEqual(work(*things), snapshot, word)
                 for kind in (list, tuple):
                     self.assertEqual(work(*[copied(thing, kind) for thing in things]), snapshot, word)
-                self.assertEqual(work(**dict(zip(parameters, things))), snapshot, word)
+                # By name, in another order.
+                self.assertEqual(work(**dict(list(zip(parameters, things))[::-1])), snapshot, word)
+
+    def test_methods_by_name(self):
+        self.assertEqual(Net(joins=[("c", "c")], cells=[("stop", "a")], ends=["a"]), Net(["a"], [("stop", "a")], [("c", "c")]))
+        self.assertEqual(NET.places(wire="a"), NET.places("a"))
+        self.assertEqual(Plan(items=[("stop", "a")], ends=["a"], parts=PARTS), Plan(PARTS, ["a"], [("stop", "a")]))
+        self.assertEqual(Machine(rules=MACHINE.rules(), states=MACHINE.states()), MACHINE)
+        for session in (SESSION, Session()):
+            for deed in (("stop", "z"), ("wire", "z", "y1"), ("watch", ("meetings",))):
+                one, other = session.copy(), session.copy()
+                self.assertEqual(one.would(deed=deed), other.would(deed))
+                self.assertEqual(one.trial(work=lambda same: same.would(deed)), one.would(deed))
+                if deed[0] == "watch" or not session.watched():
+                    self.assertEqual(one.do(deed=deed), other.do(deed))
+                self.assertEqual((one, one.at(number=0)), (other, other.at(0)))
+            for question in (("open",), ("does", []), ("walk", ("a", [0], [])), None):
+                self.assertEqual(session.is_question(thing=question), session.is_question(question))
+                if session.is_question(question):
+                    self.assertEqual(session.answer(question=question), session.answer(question))
 
     def test_package_has_a_docstring_alone(self):
         self.assertEqual(defined_in("__init__"), {})

@@ -1,4 +1,4 @@
-"""The readers of the texts of courses and derivations."""
+"""The readers of the texts of courses, derivations and ways."""
 
 from twinforks.stocks import Stock
 from twinforks.things import FIGURES
@@ -8,6 +8,7 @@ GREATEST = 999999999
 
 # What stands behind each word that begins a line.
 STEP_SLOTS = {"grow": "kind", "shrink": "index", "turn": "index", "loop": "step", "unloop": "step"}
+WAY_WORDS = {"deed": ("put", "take"), "figure": ("0", "1")}
 
 
 def is_numeral(word):
@@ -86,3 +87,37 @@ class StepsReader:
 
     def is_done(self):
         return self.slot == "step"
+
+
+class WayReader:
+    """Reads a way's text, as twinforks.scanning tells. Its slot is what the next word is to be: "index" (a line's
+    first), "deed", "figure".
+    """
+
+    def __init__(self):
+        self.slot = "index"
+
+    def may_begin(self, word):
+        if self.slot == "index":
+            return is_numeral(word)
+        return any([one.startswith(word) for one in WAY_WORDS[self.slot]])
+
+    def may_end(self, word, sign):
+        if sign != ("\n" if self.slot == "figure" else " "):
+            return False
+        return is_numeral(word) if self.slot == "index" else word in WAY_WORDS[self.slot]
+
+    def put(self, word, sign):
+        if sign == "\n":
+            self.slot = "index"
+        else:
+            self.slot = "deed" if self.slot == "index" else "figure"
+
+    def is_done(self):
+        return self.slot == "index"
+
+    def guess(self, word):
+        sign = "\n" if self.slot == "figure" else " "
+        if self.slot == "index":
+            return (word if word != "" else "0"), sign
+        return [one for one in WAY_WORDS[self.slot] if one.startswith(word)][0], sign

@@ -5,6 +5,7 @@ from twinforks.errors import BadChoice
 from twinforks.meetings import is_meeting, sort_of_cells
 from twinforks.meets import meet
 from twinforks.nets import check_net, net_of_wiring
+from twinforks.orders import cell_order
 from twinforks.things import check_most
 
 
@@ -28,6 +29,20 @@ def met_out(net, most):
         sorts.append(sort_of_cells(wiring, one, other))
         meet(wiring, one, other)
     return wiring, sorts
+
+
+def course_to_rest(net, most):
+    """As met_out, the pair of the wiring at rest and of the course that leads there."""
+    wiring = net.wiring()
+    course = []
+    while len(wiring.ready) > 0:
+        if most is not None and len(course) == most:
+            return None
+        one, other = wiring.ready.pop()
+        places = {cell: at for at, cell in enumerate(cell_order(wiring)[0])}
+        course.append(tuple(sorted([places[one], places[other]])))
+        meet(wiring, one, other)
+    return wiring, course
 
 
 def rest(net, most):

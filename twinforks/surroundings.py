@@ -81,7 +81,11 @@ def fare_within(net, surroundings, most):
     found = met_out(surrounded(net, surroundings), most)
     if found is None:
         return None
-    behind = net_of_wiring(found[0])
+    return fare_of(net_of_wiring(found[0]))
+
+
+def fare_of(behind):
+    """What a net with two ends is, loops aside: "wire", "stops", "else"."""
     ends = behind.ends()
     if len(behind.cells()) == 0:
         return "wire"

@@ -102,7 +102,9 @@ def boxes_of(table, side):
 
 
 def in_out_program(table):
-    """As program_of_table, of what is known to be an in-out table, not empty."""
+    """As program_of_table, of what is known to be an in-out table."""
+    if len(table) == 0:
+        return [("stop",)]
     sides = [boxes_of(table, 0), boxes_of(table, 1)]
     nothing = [[] for _ in table]
     down, codes = descent(sides[0], nothing)
@@ -121,4 +123,4 @@ def program_of_table(table):
     at = first_not_in_out(table)
     if at is not None:
         raise BadTable(at)
-    return in_out_program(table) if len(table) > 0 else [("stop",)]
+    return in_out_program(table)

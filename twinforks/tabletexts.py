@@ -87,17 +87,23 @@ def table_text(ends, table, shut):
     return "".join(lines)
 
 
+def pair_told(words):
+    """The two boxes of a line's words."""
+    return box_told(words[:3]), box_told(words[4:])
+
+
+def table_lines(text):
+    """For each line of a text that is right its two boxes, None in the place of the second one in a line of a box that
+    is shut.
+    """
+    return [(box_told(words[1:]), None) if words[0] == "shut" else pair_told(words) for words in lines_of(text)]
+
+
 def read_table(ends, text):
     """The pair of the table and the boxes that are shut."""
     check_fault(table_fault(ends, text))
-    table = []
-    shut = []
-    for words in lines_of(text):
-        if words[0] == "shut":
-            shut.append(box_told(words[1:]))
-        else:
-            table.append((box_told(words[:3]), box_told(words[4:])))
-    return table, shut
+    lines = table_lines(text)
+    return [line for line in lines if line[1] is not None], [box for box, goal in lines if goal is None]
 
 
 def table_fault(ends, text):
