@@ -57,27 +57,34 @@ def half_of(boxes, row, sign):
     return half
 
 
+def parted(boxes):
+    """The kind by whose figures boxes can be parted, and both halves of them."""
+    kind, row = ("x", 0) if all([box[0] != "" for box in boxes]) else ("y", 1)
+    return kind, [half_of(boxes, row, sign) for sign in ("0", "1")]
+
+
 def descent(boxes, at_box):
     """The program that takes the figures of a box off the piles, does what is to be done at this box, and puts on x the
     box's CODE, in the place of figures that tell it from others; and the dict of codes. Boxes are triples of their rows
     as strings and of a number; who comes with figures of none of them is stopped.
     """
+    takes = []
+    kind, halves = parted(boxes)
+    while len(boxes) > 1 and [] in halves:
+        figure = 1 - halves.index([])
+        takes.append(("take", figure, kind))
+        boxes = halves[figure]
+        kind, halves = parted(boxes)
     if len(boxes) == 1:
         s, t, number = boxes[0]
-        return takes_of(s, "x") + takes_of(t, "y") + at_box[number], {number: ""}
-    kind, row = ("x", 0) if all([box[0] != "" for box in boxes]) else ("y", 1)
-    halves = [half_of(boxes, row, sign) for sign in ("0", "1")]
-    for figure in (0, 1):
-        if len(halves[1 - figure]) == 0:
-            program, codes = descent(halves[figure], at_box)
-            return [("take", figure, kind), *program], codes
+        return takes + takes_of(s, "x") + takes_of(t, "y") + at_box[number], {number: ""}
     programs = []
     codes = {}
     for figure in (0, 1):
         program, behind = descent(halves[figure], at_box)
         programs.append(program)
         codes.update({number: str(figure) + code for number, code in behind.items()})
-    return [("by", kind, *programs, "x")], codes
+    return [*takes, ("by", kind, *programs, "x")], codes
 
 
 def numerals(many):
