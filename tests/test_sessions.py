@@ -21,7 +21,7 @@ DOES = ("does", [(("a", [], []), ("c", [], [])), (("b", [], []), ("d", [], []))]
 EXAMPLE = [("fork", "x", "p", "a", "b"), ("fork", "x", "q", "c", "d"), ("tie", "p", "q")]
 BAD_DEEDS = [
     (), [], ("fork",), ("go",), ("fork", "x", "a", "b"), ("fork", "x", "a", "b", "c", "d"), ("fork", "z", "a", "b", "c"), ("fork", "stop", "a", "b", "c"), ("fork", ["x"], "a", "b", "c"),
-    ("fork", "x", "a", "b", "x"), ("fork", "x", "a", "b", 3), ("fork", "x", "a", "b", "C"), ("x", "a", "b", "c"), ("stop",), ("stop", "stop"), ("stop", "a", "b"), ("stop", None), ("stop", ["a"]),
+    ("fork", "x", "y", "b", "c"), ("fork", "x", 3, "b", "c"), ("fork", "x", "a", "b", "x"), ("fork", "x", "a", "b", 3), ("fork", "x", "a", "b", "C"), ("x", "a", "b", "c"), ("stop",), ("stop", "stop"), ("stop", "a", "b"), ("stop", None), ("stop", ["a"]),
     ("wire", "a"), ("wire", "a", "to"), ("wire", "a", "abcdefghi"), ("lay",), ("lay", "net"), ("lay", None), ("lay", "net a\n"), ("lay", 3), ("lay", "net\n", "net\n"), ("tie", "a"), ("tie", "a", ""),
     ("tie", "a", "b", "c"), ("name", "a"), ("name", "a", "1"), ("name", "net", "a"), ("meet", 0), ("meet", 0, -1), ("meet", 0, True), ("meet", "0", 1), ("meet", (0, 1)), ("meet", 0, 1, 2), ("rest", 60),
     ("rest", None), ("step",), ("step", "loop"), ("step", ("go",)), ("step", ("shrink", -1)), ("step", ("grow", "x")), ("step", ("shrink", 10 ** 9)), ("step", "loop", "loop"), ("watch",),
@@ -297,6 +297,27 @@ class QuestionsTest(unittest.TestCase):
         self.assertEqual((error.question, error.why), (("does", []), (False, True)))
         session = session_of(("lay", net_text(Net([], [("x", "w", "v", "s"), ("y", "w", "v", "t")] + [("stop", "s"), ("stop", "t")], []))))
         self.assertEqual(raised(NotNow, session.do, ("rest",)).why, ("on",))
+
+    def test_what_is_open(self):
+        session = session_of(("hold", ("open",)))
+        error = raised(WouldChange, session.do, ("lay", "net a\nx p p a\n"))
+        self.assertEqual((error.question, error.why), (("open",), (True, False)))
+
+    def test_none_that_would_be_false(self):
+        cells = [("stop", f"w{k}") for k in range(61) for _ in range(2)]
+        session = session_of(("lay", net_text(Net(["a", "b"], cells, [("a", "b")]))), ("hold", ("does", [])))
+        error = raised(WouldChange, session.do, ("meet", *session_pairs(session)[0]))
+        self.assertEqual((error.question, error.why), (("does", []), (None, False)))
+
+    def test_just_four_hundred_passings(self):
+        def chain(name, many):
+            """Forks one behind another, each with its leg 0 led to the next one's back."""
+            wires = [name, *[f"{name}{k}" for k in range(1, many)], f"{name}z"]
+            return [("x", wires[k], wires[k + 1], f"{name}s{k}") for k in range(many)] + [("stop", f"{name}s{k}") for k in range(many)]
+
+        for many, told in ((400, ("out", ("b", [], []))), (401, None)):
+            session = session_of(("lay", net_text(Net(["a", "b"], [*chain("a", many)], [("az", "b")]))))
+            self.assertEqual(session.answer(("walk", ("a", [0] * many, []))), told)
 
     def test_what_holds_none(self):
         """An answer None that would be a truth, or a truth None, tells both."""

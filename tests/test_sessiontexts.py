@@ -81,7 +81,8 @@ def is_question_line(ends, line):
     if words[1] in ("meetings", "open"):
         return len(words) == 2
     if words[1] == "does":
-        return len(words) == 2 or len(words) % 8 == 1 and table_fault(ends, line.split(" ", 2)[2].replace(" and ", "\n") + "\n") is None
+        lines = [" ".join(words[at:at + 7]) + "\n" for at in range(2, len(words), 8)]
+        return len(words) == 2 or len(words) % 8 == 1 and table_fault(ends, "".join(lines)) is None
     if words[1] == "walk":
         return len(words) == 5 and words[2] in ends and words[4] != ""
     return words[1] == "share" and len(words) == 4 and words[3] in ends
@@ -176,7 +177,10 @@ class SessionTextsTest(unittest.TestCase):
                          ("net a\nstop a\nwatch walk a 0 \n", 28), ("net a\nstop a\nwatch walk a -\n", 27), ("net a\nstop a\nwatch does a - -", 28), ("net a\nstop a\nwatch does a - 0 to a - 01", 37),
                          ("net a\nstop a\nwatch does a - 0 to a - 1 ", 38), ("net a\nstop a\nwatch does a - 0 to a - 11 ", 40), ("net a\nstop a\nwatch does a - 0 to a - 11 and shut", 44),
                          ("net a\nstop a\nwatch does shut", 24), ("net a\nstop a\nwatch does a - 0 to a - 1\n", None), ("net a\nstop a\nwatch share a a\nx", 29), ("net a\nstop a\nwatch share a", 26),
-                         ("net a\nstop a\nwatch share a\n", 26), ("net a\nstop a\nwatch open a\n", 23), ("net\nloop\nwatch does\n", None), ("net\nfree open\n", 4)):
+                         ("net a\nstop a\nwatch share a\n", 26), ("net a\nstop a\nwatch open a\n", 23), ("net\nloop\nwatch does\n", None), ("net\nfree open\n", 4),
+                         ("net does and\njoin does and\nwatch walk does\n", 42), ("net does and\njoin does and\nwatch share does and\n", None), ("net does and\njoin does and\nwatch share does\n", 43),
+                         ("net watch hold\njoin hold watch\nwatch walk hold - -\n", None), ("net does and\njoin does and\nhold does does - - to and - -\n", None),
+                         ("net does and\njoin does and\nhold does does - 0 to and - - and does - 1 to", 69)):
             self.assertEqual(session_fault(text), at, text)
             check_fault(self, text)
             if at is not None:

@@ -25,7 +25,7 @@ def is_deed(thing):
     if PARTS.get(word, 0) != len(thing):
         return False
     if word == "fork":
-        return isinstance(thing[1], str) and thing[1] in ("x", "y") and are_names(thing[2:])
+        return thing[1] in ("x", "y") and are_names(thing[2:])
     if word in ("stop", "wire", "tie", "name"):
         return are_names(thing[1:])
     if word == "lay":

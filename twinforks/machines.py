@@ -30,9 +30,7 @@ def is_rule(names, thing):
     """Whether any object is a rule, by itself, among states of these names."""
     if not is_list(thing) or len(thing) != 4 or not is_figure(thing[1]) or not is_figure(thing[2]):
         return False
-    if not all([isinstance(name, str) and name in names for name in (thing[0], thing[3])]):
-        return False
-    return thing[0] != names[-1] and thing[3] != names[0]
+    return thing[0] in names[:-1] and thing[3] in names[1:]
 
 
 def first_no_rule(names, rules):

@@ -4,7 +4,7 @@ from twinforks.compiled import compiled_net
 from twinforks.forms import figures_of
 from twinforks.machinenets import machine_net
 from twinforks.machines import check_machine
-from twinforks.programs import back_program, check_program, rounds_in
+from twinforks.programs import back_program, rounds_in
 from twinforks.tableprograms import in_out_program, puts_of, takes_of
 
 
@@ -72,7 +72,6 @@ class Tour:
 
 def one_round(program):
     """A program with one round at most, and none within it, that does what another one does."""
-    check_program(program)
     if rounds_in(program) <= 1:
         # Gone back twice it is the same once more.
         return back_program(back_program(program))

@@ -40,7 +40,7 @@ class QuestionReader:
 
     def is_in_pair(self):
         """Whether the next word is one within a pair of boxes, not the first one."""
-        return self.slot == "table" and self.table.slot != "line"
+        return self.table.slot != "line"
 
     def may_begin(self, word):
         if self.is_in_pair():
@@ -69,7 +69,7 @@ class QuestionReader:
         """Behind a pair the line may end, or go on if there is an address left."""
         if self.table.role == "first" or self.table.slot != "t" or sign == "\n":
             return self.table.may_end(word, sign)
-        return self.table.may_end(word, "\n") and sign == " " and self.table.leaves_any(row_of(word))
+        return self.table.may_end(word, "\n") and self.table.leaves_any(row_of(word))
 
     def put(self, word, sign):
         if self.slot == "table":

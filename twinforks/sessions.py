@@ -120,7 +120,7 @@ class Session:
 
     def deeds(self):
         """The deeds that are done and not taken back."""
-        return [deed_told(deed) for deed, _, _ in self._past[1:]]
+        return [deed_told(state[0]) for state in self._past[1:]]
 
     def undo(self):
         """Takes the last deed back, and tells it; None without one."""
