@@ -19,7 +19,7 @@ from twinforks.tables import net_of
 
 TABLE = [(([0], []), ([1, 1], [0])), (([1], [0]), ([0], [])), (([1], [1]), ([1, 0], []))]
 NO_PAIRS = [None, (), ([0], [1]), (([0], []),), (([0], []), ([0], []), ([0], [])), (([0],), ([0], [])), (([2], []), ([0], [])), (([0], []), ([0], [True])),
-            (([0], []), None), ("01", "01"), (([0, 0], []), ([0, 0, 0], [])), ((([0]), ([])), 3)]
+            (([0], []), None), ("01", "01"), (([0], []), 3)]
 
 
 def boxes_table(table):
@@ -44,8 +44,7 @@ class InOutTest(unittest.TestCase):
         for thing in ANYTHING:
             self.assertIs(is_in_out(thing), thing in ([], ()))
         for pair in NO_PAIRS:
-            if pair != NO_PAIRS[-2]:
-                self.assertFalse(is_in_out([pair]), pair)
+            self.assertFalse(is_in_out([pair]), pair)
         for pair in meeting_pairs():
             self.assertTrue(is_in_out([pair]))
             self.assertFalse(is_in_out([*TABLE, pair]), pair)
@@ -124,13 +123,11 @@ class ProgramOfTableTest(unittest.TestCase):
         for thing in ANYTHING:
             if not isinstance(thing, (list, tuple)):
                 self.assertEqual(raised(BadTable, program_of_table, thing).index, 0)
-        for pair in [*NO_PAIRS[:-2], *meeting_pairs()]:
+        for pair in NO_PAIRS:
             for ahead in range(4):
-                table = [*TABLE[:ahead], pair, None]
-                index = ahead if pair not in meeting_pairs() or not is_in_out([*TABLE[:ahead], pair]) else ahead + 1
-                self.assertEqual(raised(BadTable, program_of_table, table).index, index)
-                if pair in meeting_pairs():
-                    self.assertEqual(raised(BadTable, program_of_table, [*TABLE, pair]).index, 3)
+                self.assertEqual(raised(BadTable, program_of_table, [*TABLE[:ahead], pair, None]).index, ahead)
+        for pair in meeting_pairs():
+            self.assertEqual(raised(BadTable, program_of_table, [*TABLE, pair, None]).index, 3)
 
     def test_what_is_told_is_new(self):
         table = [(([], []), ([0], []))]
